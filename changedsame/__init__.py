@@ -1,0 +1,1 @@
+"""Same runs: an engine that changes programs and keeps every run."""

@@ -1,0 +1,97 @@
+"""Declarations with whole names, and the first fault of a program."""
+
+from changedsame.basics import is_short_name
+from changedsame.errors import NotBound, Twice
+from changedsame.scopes import BASE_CONS, Home, Scope
+from changedsame.wholeforms import whole_expr, whole_member, whole_written
+
+
+class Book:
+    """What is gathered while a program is read: whole declarations, names of values, constructors, modules.
+
+    The scope tells in the end what an expression behind all modules sees.
+    """
+
+    def __init__(self):
+        self.told = []
+        self.names = []
+        self.makers = list(BASE_CONS)
+        self.scope = Scope({}, None, 0)
+
+
+def read_book(program):
+    """The book of a program; raises its first fault."""
+    book = Book()
+    for _, name, shows, decls in program:
+        if name in book.scope.homes:
+            raise Twice(name)
+        home = Home(name, shows)
+        book.scope.here = home
+        for decl in decls:
+            action = DECLS[decl[0]]
+            book.told.append(action(book, home, decl))
+        for shown in () if shows is None else shows:
+            if shown not in (home.vals if is_short_name(shown) else home.makers):
+                raise NotBound(shown)
+        book.scope.homes[name] = home
+        book.scope.here = None
+    return book
+
+
+def add_value(book, home, name):
+    """Changes both: from here on the module has this value."""
+    home.vals[name] = True
+    book.names.append(home.whole(name))
+
+
+def whole_data_decl(book, home, decl):
+    _, name, parameters, cases = decl
+    if name in home.sorts:
+        raise Twice(name)
+    home.sorts[name] = len(parameters)
+    told = [whole_case(book, home, case, home.whole(name), parameters) for case in cases]
+    return ("type", home.whole(name), parameters, tuple(told))
+
+
+def whole_case(book, home, case, sort, parameters):
+    """A constructor of a type, or an exception, with whole names; the module has it then."""
+    con, written = case
+    if con in home.makers:
+        raise Twice(con)
+    argument = None if written is None else whole_written(book.scope, written, parameters)
+    home.makers[con] = written is not None
+    book.makers.append((home.whole(con), sort, parameters, argument))
+    return (home.whole(con), argument)
+
+
+def whole_exception(book, home, decl):
+    return ("exception",) + whole_case(book, home, decl[1:], "exn", ())
+
+
+def whole_let_decl(book, home, decl):
+    _, name, expr = decl
+    if name in home.vals:
+        raise Twice(name)
+    told = whole_expr(book.scope, expr, ())
+    add_value(book, home, name)
+    return ("let", home.whole(name), told)
+
+
+def whole_rec_decl(book, home, decl):
+    for member in decl[1]:
+        if member[0] in home.vals:
+            raise Twice(member[0])
+    for member in decl[1]:
+        add_value(book, home, member[0])
+    members = [whole_member(book.scope, member, home.whole(member[0]), ()) for member in decl[1]]
+    return ("rec", tuple(members))
+
+
+def whole_do(book, home, decl):
+    return ("do", whole_expr(book.scope, decl[1], ()))
+
+
+DECLS = {
+    "type": whole_data_decl, "exception": whole_exception, "let": whole_let_decl, "rec": whole_rec_decl,
+    "do": whole_do,
+}
