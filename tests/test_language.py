@@ -28,6 +28,8 @@ BARRED_WORDS = set(
     "typing typing_extensions enum Enum IntEnum StrEnum Flag IntFlag Generic Protocol ABC ABCMeta namedtuple "
     "NamedTuple TypedDict TYPE_CHECKING abstractmethod".split()
 )
+# The name _ is there once an example has run.
+ALL_BUILTINS = set(dir(builtins)) - {"_"}
 DUNDERS = {"__init__", "__eq__", "__repr__", "__str__", "__len__"}
 STATEMENTS = (
     ast.Assign, ast.AugAssign, ast.If, ast.While, ast.For, ast.Return, ast.Break, ast.Continue, ast.Pass, ast.Raise,
@@ -79,7 +81,7 @@ class TestLanguage(unittest.TestCase):
         self.assertLessEqual(len(names), 100)
         for path in names:
             self.assertRegex(path.stem, r"^(__init__|[a-z][a-z0-9]*)$")
-            self.assertFalse(path.stem in dir(builtins), path)
+            self.assertNotIn(path.stem, ALL_BUILTINS)
 
     def test_lines_and_characters(self):
         for path, text in self.files.items():
@@ -127,7 +129,7 @@ class TestLanguage(unittest.TestCase):
                     self.assertTrue(isinstance(node, ast.Expr) and isinstance(node.value, ast.Constant), where)
             self.assertEqual(len(bound), len(set(bound)), path)
             for name in bound:
-                self.assertFalse(hasattr(builtins, name) or name in BARRED, (path, name))
+                self.assertNotIn(name, ALL_BUILTINS | BARRED, path)
 
     def has_inner_list(self, value):
         return any(isinstance(node, (ast.List, ast.Dict)) for node in ast.walk(value) if node is not value)
@@ -165,7 +167,7 @@ class TestLanguage(unittest.TestCase):
 
     def test_local_names(self):
         for path, tree in self.trees.items():
-            taken = set(dir(builtins)) | BARRED
+            taken = ALL_BUILTINS | BARRED
             tables = set()
             for node in tree.body:
                 if isinstance(node, ast.ImportFrom):
@@ -208,7 +210,7 @@ class TestLanguage(unittest.TestCase):
                     own.add(node.name)
         for path, tree in self.trees.items():
             for node in ast.walk(tree):
-                if isinstance(node, ast.Name) and hasattr(builtins, node.id):
+                if isinstance(node, ast.Name) and node.id in ALL_BUILTINS:
                     self.assertIn(node.id, BUILTINS, (path, node.lineno))
                 if isinstance(node, ast.Call):
                     self.assertFalse(node.keywords, (path, node.lineno))
