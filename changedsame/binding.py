@@ -43,10 +43,11 @@ def fresh_name(old, new, exprs, barred):
     used.update({name: True for name in barred})
     for expr in exprs:
         used.update(free_in(expr))
+    start = new[:KEPT_SIGNS]
     k = 0
-    while f"{new[:KEPT_SIGNS]}{k}" in used:
+    while f"{start}{k}" in used:
         k += 1
-    return f"{new[:KEPT_SIGNS]}{k}"
+    return f"{start}{k}"
 
 
 def changed(expr, old, new):

@@ -12,7 +12,7 @@ class Cursor:
         self.tokens.append(("end", "", len(text)))
         self.spot = 0
 
-    def sort(self):
+    def token_kind(self):
         """The kind of the next token."""
         return self.tokens[self.spot][0]
 
@@ -44,11 +44,11 @@ class Cursor:
 
     def has_name(self):
         """Whether the next token is a name without a module."""
-        return self.sort() == "name" and "." not in self.word()
+        return self.token_kind() == "name" and "." not in self.word()
 
     def has_big(self):
         """Whether the next token is a big name without a module."""
-        return self.sort() == "big" and "." not in self.word()
+        return self.token_kind() == "big" and "." not in self.word()
 
     def take_name(self, barred):
         """The next token, which has to be a name without a module, none of those that are barred."""

@@ -157,7 +157,7 @@ def ways_from(board, known, test):
     _, path, kind, branches, default = test
     sure = key_tuple(board, known, path)
     whole = sure if sure else board.keys_at(path)
-    keys = [key for key, _ in branches]
+    keys = [branch[0] for branch in branches]
     ways = []
     for key, tree in branches:
         if (whole is None or key in whole) and may_be(known, path, key):

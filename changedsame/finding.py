@@ -7,17 +7,28 @@ INT = ("int",)
 BOOL = ("bool",)
 UNIT = ("unit",)
 EXN = ("exn",)
-ANY = ("param", 0)
-REF_ANY = ("ref", ANY)
-ARRAY_ANY = ("array", ANY)
 
-# What each prim takes, and what it gives; ANY is the same type at all places of one prim.
+# What each prim takes, and behind it what it gives; ("param", 0) is the same type at all places of one prim.
 PRIM_KINDS = {
-    "add": ((INT, INT), INT), "sub": ((INT, INT), INT), "mul": ((INT, INT), INT), "div": ((INT, INT), INT),
-    "mod": ((INT, INT), INT), "eq": ((INT, INT), BOOL), "lt": ((INT, INT), BOOL), "le": ((INT, INT), BOOL),
-    "not": ((BOOL,), BOOL), "ref": ((ANY,), REF_ANY), "get": ((REF_ANY,), ANY), "put": ((REF_ANY, ANY), UNIT),
-    "same": ((REF_ANY, REF_ANY), BOOL), "array": ((INT, ANY), ARRAY_ANY), "at": ((ARRAY_ANY, INT), ANY),
-    "place": ((ARRAY_ANY, INT, ANY), UNIT), "size": ((ARRAY_ANY,), INT), "tell": ((INT,), UNIT), "ask": ((), INT),
+    "add": (("int",), ("int",), ("int",)),
+    "sub": (("int",), ("int",), ("int",)),
+    "mul": (("int",), ("int",), ("int",)),
+    "div": (("int",), ("int",), ("int",)),
+    "mod": (("int",), ("int",), ("int",)),
+    "eq": (("int",), ("int",), ("bool",)),
+    "lt": (("int",), ("int",), ("bool",)),
+    "le": (("int",), ("int",), ("bool",)),
+    "not": (("bool",), ("bool",)),
+    "ref": (("param", 0), ("ref", ("param", 0))),
+    "get": (("ref", ("param", 0)), ("param", 0)),
+    "put": (("ref", ("param", 0)), ("param", 0), ("unit",)),
+    "same": (("ref", ("param", 0)), ("ref", ("param", 0)), ("bool",)),
+    "array": (("int",), ("param", 0), ("array", ("param", 0))),
+    "at": (("array", ("param", 0)), ("int",), ("param", 0)),
+    "place": (("array", ("param", 0)), ("int",), ("param", 0), ("unit",)),
+    "size": (("array", ("param", 0)), ("int",)),
+    "tell": (("int",), ("unit",)),
+    "ask": (("int",),),
 }
 
 
@@ -58,10 +69,9 @@ class Finder:
         return (None if argument is None else put_for_leaves(argument, "param", table), made)
 
     def prim_types(self, word):
-        """The list of the types that a prim takes, and the one that it gives, as used once."""
-        takes, gives = PRIM_KINDS[word]
+        """The list of the types that a prim takes, and behind them the one that it gives, as used once."""
         table = {0: self.solver.fresh()}
-        return ([put_for_leaves(part, "param", table) for part in takes], put_for_leaves(gives, "param", table))
+        return [put_for_leaves(part, "param", table) for part in PRIM_KINDS[word]]
 
     def entry(self, loose, is_general, env):
         """The entry of a name of this type; if it may be so, unknowns of no name around become parameters."""
@@ -179,7 +189,7 @@ def find_rec(finder, expr, env):
 def member_entries(finder, members, env):
     """The entries that the functions of a rec have in what follows."""
     names = [member[1] for member in members]
-    types = [finder.solver.fresh() for _ in members]
+    types = [finder.solver.fresh() for name in names]
     inner = with_entries(env, names, [lone_entry(finder, loose) for loose in types])
     for member, loose in zip(members, types):
         finder.meet(loose, find_function(finder, member[2], member[3], inner))
@@ -248,10 +258,10 @@ def find_raise(finder, expr, env):
 
 
 def find_prim(finder, expr, env):
-    takes, gives = finder.prim_types(expr[1])
-    for part, loose in zip(expr[2], takes):
+    types = finder.prim_types(expr[1])
+    for part, loose in zip(expr[2], types):
         finder.meet(find(finder, part, env), loose)
-    return gives
+    return types[-1]
 
 
 FORMS = {

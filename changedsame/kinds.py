@@ -2,7 +2,7 @@
 
 from changedsame.basics import is_count
 from changedsame.errors import InvalidLoose, InvalidScheme
-from changedsame.looses import are_headed_alike, inner_types, leaves_of, loose_parts, put_for_leaves
+from changedsame.looses import can_lead, leaves_of, loose_parts, put_for_leaves
 from changedsame.measures import measured
 from changedsame.writeexprs import written_items
 from changedsame.writing import written_text
@@ -59,18 +59,7 @@ def is_instance(scheme, loose):
         raise InvalidScheme(scheme)
     if not is_loose(loose):
         raise InvalidLoose(loose)
-    found = {}
-    work = [(scheme[1], loose)]
-    while work:
-        told, given = work.pop()
-        if told[0] == "param":
-            if found.setdefault(told[1], given) != given:
-                return False
-        elif are_headed_alike(told, given):
-            work.extend(list(zip(inner_types(told), inner_types(given))))
-        else:
-            return False
-    return True
+    return can_lead([(scheme[1], loose)], "param")
 
 
 def scheme_text(scheme):

@@ -27,7 +27,7 @@ def may_be(known, place, key):
 
 def with_key(known, place, key):
     """What is known once this key is at the place."""
-    inner = dict(known)
+    inner = {path: known[path] for path in known}
     inner[place] = (True, key)
     return inner
 
@@ -35,7 +35,7 @@ def with_key(known, place, key):
 def without_keys(known, place, keys):
     """What is known once none of these keys is at the place."""
     told = known.get(place)
-    inner = dict(known)
+    inner = {path: known[path] for path in known}
     inner[place] = (False, tuple(keys) if told is None else told[1] + tuple(keys))
     return inner
 

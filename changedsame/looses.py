@@ -53,6 +53,22 @@ def leaves_of(loose, word):
     return list(found)
 
 
+def can_lead(pairs, word):
+    """Whether one type can be put for each leaf that begins with a word, so that all first types become the others."""
+    found = {}
+    work = list(pairs)
+    while work:
+        told, given = work.pop()
+        if told[0] == word:
+            if found.setdefault(told[1], given) != given:
+                return False
+        elif are_headed_alike(told, given):
+            work.extend(list(zip(inner_types(told), inner_types(given))))
+        else:
+            return False
+    return True
+
+
 def put_for_leaves(loose, word, table):
     """The type with other ones in the place of the leaves that begin with a word and that the table tells."""
     out = []

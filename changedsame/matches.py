@@ -9,18 +9,21 @@ from changedsame.trees import is_pattern
 
 MOST_PATTERNS = 8
 
-PLAIN_FORMS = {"int": int_parts, "bool": bool_parts, "unit": lone_parts, "con": con_parts, "tuple": tuple_parts}
-
 
 def plain_parts(kind, value):
     """The plain values in a plain value, as the reader of `measured` tells them."""
     word = word_of(value)
     if word == "cell":
         return [] if len(value) == 2 and is_count(value[1]) else None
-    if word not in PLAIN_FORMS:
-        return None
-    action = PLAIN_FORMS[word]
-    return action(value, kind)
+    if word == "int":
+        return int_parts(value, kind)
+    if word == "bool":
+        return bool_parts(value, kind)
+    if word == "unit":
+        return lone_parts(value, kind)
+    if word == "con":
+        return con_parts(value, kind)
+    return tuple_parts(value, kind) if word == "tuple" else None
 
 
 def is_plain(value):

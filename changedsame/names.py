@@ -39,8 +39,8 @@ def are_like(expr, other, bound, others):
         return place == last_place(others, other[1]) and (place is not None or expr[1] == other[1])
     if not are_made_alike(expr, other):
         return False
-    for (names, part), (other_names, other_part) in zip(scopes(expr), scopes(other)):
-        if not are_like(part, other_part, bound + names, others + other_names):
+    for inner, twin in zip(scopes(expr), scopes(other)):
+        if not are_like(inner[1], twin[1], bound + inner[0], others + twin[0]):
             return False
     return True
 

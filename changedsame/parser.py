@@ -28,7 +28,7 @@ def parse_type(text):
 
 def ended(cursor, kind, tree):
     """What was read, behind which nothing may stand, within the limits."""
-    if cursor.sort() != "end":
+    if cursor.token_kind() != "end":
         cursor.stop()
     parts, depth = size_of(kind, tree)
     if parts > MOST_PARTS:

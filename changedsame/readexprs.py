@@ -4,7 +4,7 @@ from changedsame.basics import PRIMS
 from changedsame.readpatterns import number_of, read_pattern
 
 OPEN_WORDS = ("fn", "let", "rec", "if")
-SMALL_SORTS = ("number", "name", "big")
+SMALL_KINDS = ("number", "name", "big")
 SMALL_WORDS = (
     "!", "true", "false", "(", "match", "try", "not", "ref", "size", "tell", "same", "array", "at", "place", "ask",
 )
@@ -104,14 +104,14 @@ def join_last(parts, signs):
 
 def begins_small(cursor):
     """Whether the next token begins a PRE."""
-    return cursor.sort() in SMALL_SORTS or cursor.word() in SMALL_WORDS
+    return cursor.token_kind() in SMALL_KINDS or cursor.word() in SMALL_WORDS
 
 
 def read_call(cursor):
     """APP: what is called, with its arguments one behind another."""
     if cursor.takes("raise"):
         expr = ("raise", read_pre(cursor))
-    elif cursor.sort() == "big":
+    elif cursor.token_kind() == "big":
         con = cursor.take()
         expr = ("con", con, read_pre(cursor) if begins_small(cursor) else None)
     else:
@@ -134,13 +134,13 @@ def read_pre(cursor):
 
 def read_small(cursor):
     """ATOM: an expression that needs no brackets wherever it stands."""
-    sort = cursor.sort()
+    kind = cursor.token_kind()
     word = cursor.word()
-    if sort == "number":
+    if kind == "number":
         return ("int", number_of(cursor.take()))
-    if sort == "name":
+    if kind == "name":
         return ("var", cursor.take())
-    if sort == "big":
+    if kind == "big":
         return ("con", cursor.take(), None)
     if word in ("true", "false"):
         return ("bool", cursor.take() == "true")

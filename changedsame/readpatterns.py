@@ -1,6 +1,6 @@
 """Reading patterns. A name that a pattern has bound is put into the list of its names, and can't stand again."""
 
-SIMPLE_SORTS = ("number", "big")
+SIMPLE_KINDS = ("number", "big")
 SIMPLE_WORDS = ("_", "true", "false", "(")
 
 
@@ -11,19 +11,19 @@ def number_of(text):
 
 def read_pattern(cursor, names):
     """P: a constructor with its argument, or a small pattern."""
-    if cursor.sort() != "big":
+    if cursor.token_kind() != "big":
         return read_small_pattern(cursor, names)
     con = cursor.take()
-    if cursor.has_name() or cursor.sort() in SIMPLE_SORTS or cursor.word() in SIMPLE_WORDS:
+    if cursor.has_name() or cursor.token_kind() in SIMPLE_KINDS or cursor.word() in SIMPLE_WORDS:
         return ("con", con, read_small_pattern(cursor, names))
     return ("con", con, None)
 
 
 def read_small_pattern(cursor, names):
     """PATOM: a pattern that needs no brackets wherever it stands."""
-    if cursor.sort() == "number":
+    if cursor.token_kind() == "number":
         return ("int", number_of(cursor.take()))
-    if cursor.sort() == "big":
+    if cursor.token_kind() == "big":
         return ("con", cursor.take(), None)
     if cursor.has_name():
         names.append(cursor.take_name(names))

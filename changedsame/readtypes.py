@@ -25,7 +25,7 @@ def read_flat(cursor):
 def read_small(cursor):
     """TATOM: a type that needs no brackets wherever it stands."""
     word = cursor.word()
-    if cursor.sort() == "name":
+    if cursor.token_kind() == "name":
         return ("data", cursor.take(), read_data_parts(cursor))
     if word in LONE:
         return (cursor.take(),)

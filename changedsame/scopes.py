@@ -2,12 +2,10 @@
 
 from changedsame.errors import NotBound, NotShown, WrongArgument
 
-LIST_OF_A = ("data", "list", (("param", "a"),))
-
 # Each constructor of the base: its name, its type, this type's parameters, its argument's type.
 BASE_CONS = (
     ("Nil", "list", ("a",), None),
-    ("Cons", "list", ("a",), ("tuple", (("param", "a"), LIST_OF_A))),
+    ("Cons", "list", ("a",), ("tuple", (("param", "a"), ("data", "list", (("param", "a"),))))),
     ("None", "option", ("a",), None),
     ("Some", "option", ("a",), ("param", "a")),
     ("DivZero", "exn", (), None),
@@ -60,10 +58,7 @@ def whole_value(scope, name):
     """The whole name of a value that is no local one."""
     if "." in name:
         home, short = home_of(scope, name)
-        if short not in home.vals:
-            raise NotBound(name)
-        if not home.does_show(short):
-            raise NotShown(name)
+        check_seen(home, short in home.vals, name)
         return name
     if scope.here is None or name not in scope.here.vals:
         raise NotBound(name)
@@ -78,14 +73,19 @@ def home_of(scope, name):
     return (scope.homes[module], short)
 
 
+def check_seen(home, is_declared, name):
+    """Raises the fault of a name with a dot, of a value or a constructor, that the module has not or shows not."""
+    if not is_declared:
+        raise NotBound(name)
+    if not home.does_show(name.partition(".")[2]):
+        raise NotShown(name)
+
+
 def whole_con(scope, name, has_argument):
     """The whole name of a constructor that is to have an argument, or to have none."""
     if "." in name:
         home, short = home_of(scope, name)
-        if short not in home.makers:
-            raise NotBound(name)
-        if not home.does_show(short):
-            raise NotShown(name)
+        check_seen(home, short in home.makers, name)
         whole, wants = name, home.makers[short]
     elif scope.here is not None and name in scope.here.makers:
         whole, wants = scope.here.whole(name), scope.here.makers[name]
@@ -98,9 +98,9 @@ def whole_con(scope, name, has_argument):
 
 def base_con_wants(name):
     """Whether a constructor of the base has an argument."""
-    for con, _, _, written in BASE_CONS:
-        if con == name:
-            return written is not None
+    for maker in BASE_CONS:
+        if maker[0] == name:
+            return maker[3] is not None
     raise NotBound(name)
 
 

@@ -74,8 +74,8 @@ class Solver:
         seen = {}
         work = [root]
         while work:
-            term = self.terms.get(work.pop())
-            for number in [] if term is None else leaves_of(term, "unknown"):
+            inside = self.unknowns_below(work.pop())
+            for number in inside:
                 inner = self.root(number)
                 if inner == root:
                     return True
@@ -84,11 +84,15 @@ class Solver:
                     work.append(inner)
         return False
 
+    def unknowns_below(self, root):
+        """The list of the unknowns in a root's type."""
+        return leaves_of(self.terms[root], "unknown") if root in self.terms else []
+
     def known(self, loose):
         """The type with all that is known of its unknowns put in their places."""
         done = {}
         out = []
-        work = [("open", loose)]
+        work = [("read", loose)]
         while work:
             step, node = work.pop()
             if step == "keep":
@@ -102,7 +106,7 @@ class Solver:
                 self.tell_unknown(self.root(node[1]), done, out, work)
             elif inner_types(node):
                 work.append(("close", node))
-                work.extend([("open", part) for part in inner_types(node)[::-1]])
+                work.extend([("read", part) for part in inner_types(node)[::-1]])
             else:
                 out.append(node)
         return out[0]
@@ -113,6 +117,6 @@ class Solver:
             out.append(done[root])
         elif root in self.terms:
             work.append(("keep", root))
-            work.append(("open", self.terms[root]))
+            work.append(("read", self.terms[root]))
         else:
             out.append(("unknown", root))

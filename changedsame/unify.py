@@ -3,7 +3,7 @@
 from changedsame.basics import is_count
 from changedsame.errors import InvalidLoose, InvalidReplacement
 from changedsame.kinds import is_loose
-from changedsame.looses import are_headed_alike, inner_types, leaves_of, put_for_leaves
+from changedsame.looses import can_lead, leaves_of, put_for_leaves
 from changedsame.solving import Solver
 
 MOST_REPLACED = 60
@@ -93,18 +93,8 @@ def leads_to(table, other):
         for number in replacement:
             numbers.update({inner: True for inner in leaves_of(replacement[number], "unknown")})
             numbers[number] = True
-    work = []
+    pairs = []
     for number in numbers:
         stays = ("unknown", number)
-        work.append((table.get(number, stays), other.get(number, stays)))
-    further = {}
-    while work:
-        told, given = work.pop()
-        if told[0] == "unknown":
-            if further.setdefault(told[1], given) != given:
-                return False
-        elif are_headed_alike(told, given):
-            work.extend(list(zip(inner_types(told), inner_types(given))))
-        else:
-            return False
-    return True
+        pairs.append((table.get(number, stays), other.get(number, stays)))
+    return can_lead(pairs, "unknown")

@@ -22,20 +22,27 @@ class Book:
 def read_book(program):
     """The book of a program; raises its first fault."""
     book = Book()
+    scope = book.scope
     for _, name, shows, decls in program:
-        if name in book.scope.homes:
+        if name in scope.homes:
             raise Twice(name)
         home = Home(name, shows)
-        book.scope.here = home
+        scope.here = home
         for decl in decls:
             action = DECLS[decl[0]]
             book.told.append(action(book, home, decl))
-        for shown in () if shows is None else shows:
-            if shown not in (home.vals if is_short_name(shown) else home.makers):
-                raise NotBound(shown)
-        book.scope.homes[name] = home
-        book.scope.here = None
+        check_shows(home)
+        scope.homes[name] = home
+        scope.here = None
     return book
+
+
+def check_shows(home):
+    """Raises the fault of the first thing that a module shows and does not declare."""
+    shown = () if home.shows is None else home.shows
+    for name in shown:
+        if name not in (home.vals if is_short_name(name) else home.makers):
+            raise NotBound(name)
 
 
 def add_value(book, home, name):

@@ -44,11 +44,10 @@ def decl_text(decl):
 
 def head_text(module):
     """What stands ahead of a module's declarations."""
-    _, name, shows, _ = module
-    if shows is None:
-        return items_text(["module", name, "="])
-    shown = listed(list(shows), ",") if shows else ["(", ")"]
-    return items_text(["module", name, "show"] + shown + ["="])
+    if module[2] is None:
+        return items_text(["module", module[1], "="])
+    shown = listed(list(module[2]), ",") if module[2] else ["(", ")"]
+    return items_text(["module", module[1], "show"] + shown + ["="])
 
 
 def module_text(module):

@@ -9,21 +9,17 @@ ATOM_WRITTEN = 2
 WITH_ARGUMENT = 0
 ATOM_PATTERN = 1
 
-# Expressions have one for each line of the grammar from E to ATOM.
+# Expressions have one for each line of the grammar: OPEN and E, PUT, CMP, ADD, MUL, APP, PRE, ATOM.
 OPEN = 0
 PUT = 1
-CMP = 2
-ADD = 3
-MUL = 4
 APP = 5
 PRE = 6
 ATOM = 7
 
-# Of each sign: how it is written, its own level, and the least ones of what stands ahead and behind.
+# Of each sign: how it is written, its own level (PUT to MUL), and the least ones of what stands ahead and behind.
 SIGNS = {
-    "put": (":=", PUT, CMP, CMP), "eq": ("=", CMP, ADD, ADD), "lt": ("<", CMP, ADD, ADD),
-    "le": ("<=", CMP, ADD, ADD), "add": ("+", ADD, ADD, MUL), "sub": ("-", ADD, ADD, MUL),
-    "mul": ("*", MUL, MUL, APP), "div": ("/", MUL, MUL, APP), "mod": ("mod", MUL, MUL, APP),
+    "put": (":=", 1, 2, 2), "eq": ("=", 2, 3, 3), "lt": ("<", 2, 3, 3), "le": ("<=", 2, 3, 3), "add": ("+", 3, 3, 4),
+    "sub": ("-", 3, 3, 4), "mul": ("*", 4, 4, 5), "div": ("/", 4, 4, 5), "mod": ("mod", 4, 4, 5),
 }
 
 
