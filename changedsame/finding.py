@@ -40,12 +40,14 @@ class Finder:
     """The finding of a program: what is known of its unknowns, and the names of values that are around.
 
     A name has an entry (type, general, loose): the unknowns that stand for parameters, and those that do not.
+    The types of all expressions are kept, in the sequence in which these are read.
     """
 
     def __init__(self, makers):
         self.solver = Solver()
         self.makers = {maker[0]: maker for maker in makers}
         self.tops = {}
+        self.found = []
 
     def meet(self, one, other):
         """Makes two types one."""
@@ -129,9 +131,12 @@ def is_value(expr):
 
 
 def find(finder, expr, env):
-    """The type of a whole expression."""
+    """The type of a whole expression, which is kept, too."""
+    at = len(finder.found)
+    finder.found.append(None)
     action = FORMS[expr[0]]
-    return action(finder, expr, env)
+    finder.found[at] = action(finder, expr, env)
+    return finder.found[at]
 
 
 def find_int(finder, expr, env):

@@ -12,6 +12,7 @@ class Naive:
         self.cons = {con[0]: con for con in cons}
         self.table = {}
         self.next = 0
+        self.told = []
 
     def new(self):
         self.next += 1
@@ -118,6 +119,7 @@ class Naive:
 
     def expr(self, e, t, env):
         """Gives an expression a type that is told from outside."""
+        self.told.append(t)
         word = e[0]
         if word in ("int", "bool", "unit"):
             self.unify(t, (word,))
@@ -171,11 +173,15 @@ class Naive:
                 self.expr(q, s, env)
 
 
-def naive_schemes(whole):
-    """The position of the first declaration that clashes, or the list of the tuples (global, scheme)."""
-    naive = Naive(whole.cons())
+def naive_env(naive, whole):
+    """What is found of all values: a dict, or the position of the first declaration that clashes.
+
+    Behind it the list of the numbers of types that each declaration told, and whether it is general.
+    """
     env = {}
+    rows = []
     for position, decl in enumerate(whole.decls()):
+        begin = len(naive.told)
         try:
             if decl[0] == "let":
                 t = naive.new()
@@ -186,7 +192,33 @@ def naive_schemes(whole):
             elif decl[0] == "do":
                 naive.expr(decl[1], naive.new(), env)
         except No:
-            return position
+            return position, rows
+        is_general = decl[0] == "rec" or (decl[0] == "let" and naive.value(decl[2]))
+        rows += [is_general] * (len(naive.told) - begin)
+    return env, rows
+
+
+def naive_types(whole):
+    """The types of all expressions of an accepted program, in the sequence of places."""
+    naive = Naive(whole.cons())
+    env, rows = naive_env(naive, whole)
+    fixed = {k for t, ps in env.values() for k in naive.unknowns(naive.sub(t)) if k not in ps}
+    found = []
+    for t, is_general in zip(naive.told, rows):
+        t = naive.sub(t)
+        table = {}
+        for k in naive.unknowns(t):
+            table[k] = ("unknown", len([v for v in table.values() if v != UNIT])) if is_general and k not in fixed else UNIT
+        found.append(naive.put(t, table))
+    return found
+
+
+def naive_schemes(whole):
+    """The position of the first declaration that clashes, or the list of the tuples (global, scheme)."""
+    naive = Naive(whole.cons())
+    env, _ = naive_env(naive, whole)
+    if not isinstance(env, dict):
+        return env
     found = []
     for name in whole.value_names():
         t, ps = env[name]

@@ -11,7 +11,7 @@ class TestExamples(unittest.TestCase):
     def test_examples(self):
         failed, tried = doctest.testfile(str(EXAMPLES), module_relative=False)
         self.assertEqual(failed, 0)
-        self.assertGreaterEqual(tried, 45)
+        self.assertGreaterEqual(tried, 70)
 
 
 if __name__ == "__main__":
