@@ -11,7 +11,7 @@ class TestExamples(unittest.TestCase):
     def test_examples(self):
         failed, tried = doctest.testfile(str(EXAMPLES), module_relative=False)
         self.assertEqual(failed, 0)
-        self.assertGreaterEqual(tried, 70)
+        self.assertGreaterEqual(tried, 100)
 
 
 if __name__ == "__main__":

@@ -213,7 +213,9 @@ class TestLanguage(unittest.TestCase):
                 if isinstance(node, ast.Name) and node.id in ALL_BUILTINS:
                     self.assertIn(node.id, BUILTINS, (path, node.lineno))
                 if isinstance(node, ast.Call):
-                    self.assertFalse(node.keywords, (path, node.lineno))
+                    if not (isinstance(node.func, ast.Name) and node.func.id == "sorted"):
+                        self.assertFalse(node.keywords, (path, node.lineno))
+                    self.assertFalse([word.arg for word in node.keywords if word.arg != "key"], (path, node.lineno))
                     if isinstance(node.func, ast.Attribute):
                         self.assertIn(node.func.attr, METHODS | own, (path, node.lineno))
 
