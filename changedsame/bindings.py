@@ -94,7 +94,7 @@ def names_at(program, place):
 def seen_at(program, place):
     """The sorted list of the tuples (name, binder) of all names that are seen at a place."""
     whole = resolved(program)
-    _, _, env = sight_at(program, whole, place)
+    env = sight_at(program, whole, place)[2]
     values = whole.value_names()
     seen = {}
     for module in program[:place[0]]:

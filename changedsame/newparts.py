@@ -10,7 +10,7 @@ MANY_PARTS = {"replace": 3, "swap": 2, "inline": 2, "extract": 4, "share": 4, "d
 
 
 def is_part_change(program, value):
-    """Whether any value is a change of a part that fits a resolved program."""
+    """Whether any value is a change of a part that fits; in a program with faults any expression may replace a part."""
     word = word_of(value)
     if word not in MANY_PARTS or len(value) != MANY_PARTS[word]:
         return False
@@ -18,7 +18,7 @@ def is_part_change(program, value):
     if part is None:
         return False
     if word == "replace":
-        return is_expr(value[2]) and fault_of(with_expr_at(program, value[1], value[2])) is None
+        return is_expr(value[2]) and has_no_new_fault(program, value[1], value[2])
     if word in ("extract", "share"):
         return found_at(program, value[2]) is not None and is_inside(value[2], value[1]) and is_short_name(value[3])
     if word == "inline":
@@ -26,6 +26,11 @@ def is_part_change(program, value):
     if word == "drop":
         return part[0] in ("let", "seq")
     return part[0] in ("let", "seq") and part[-1][0] == part[0]
+
+
+def has_no_new_fault(program, place, expr):
+    """Whether a program with another expression at a place is resolved, or is not resolved as it is either."""
+    return fault_of(with_expr_at(program, place, expr)) is None or fault_of(program) is not None
 
 
 def is_inside(place, other):
@@ -138,8 +143,8 @@ def swapped(views, change):
     part = views.part
     if part[0] == "seq":
         return ("seq", part[2][1], ("seq", part[1], part[2][2]))
-    _, name, first, (_, other, second, rest) = part
-    return ("let", other, second, ("let", name, first, rest))
+    inner = part[3]
+    return ("let", inner[1], inner[2], ("let", part[1], part[2], inner[3]))
 
 
 def inlined(views, change):

@@ -64,7 +64,7 @@ def plain_result(program, whole, change):
     told = occurrences(program, whole)
     if word == "rename local":
         binder = ("local", change[1], change[2])
-        used = {(place, k): new for place, k, _, _, meaning in told if meaning == binder}
+        used = {(name[0], name[1]): new for name in told if name[4] == binder}
         return rewritten(program, used, {(change[1], change[2]): new})
     table = wholes_table(whole, change)
     used = {}

@@ -79,9 +79,9 @@ def bare_written(written, parameters, numbers):
 def shown_things(program, whole, numbers):
     """For each module the sorted lists of the positions of the values and of the constructors that it shows."""
     rows = []
-    for _, name, _, decls in program:
-        home = whole.homes[name]
+    for module in program:
+        home = whole.homes[module[1]]
         vals = [numbers.of_values[home.whole(short)] for short in home.vals if home.does_show(short)]
         makers = [numbers.of_cons[home.whole(short)] for short in home.makers if home.does_show(short)]
-        rows.append((len(decls), sorted(vals), sorted(makers)))
+        rows.append((len(module[3]), sorted(vals), sorted(makers)))
     return rows
