@@ -10,14 +10,14 @@ def fault_of(program):
     """The fault of a program, be it too large or not, as a reason; None if there is none."""
     try:
         read_book(program)
-    except Twice as error:
-        return ("fault", "twice", error.name)
-    except NotBound as error:
-        return ("fault", "not bound", error.name)
-    except NotShown as error:
-        return ("fault", "not shown", error.name)
-    except WrongArgument as error:
-        return ("fault", "wrong argument", error.name)
+    except Twice as twice:
+        return ("fault", "twice", twice.name)
+    except NotBound as unbound:
+        return ("fault", "not bound", unbound.name)
+    except NotShown as hidden:
+        return ("fault", "not shown", hidden.name)
+    except WrongArgument as wrong:
+        return ("fault", "wrong argument", wrong.name)
     return None
 
 
