@@ -1,10 +1,10 @@
 """Straight parts that are alike in all surroundings, and the first difference of others."""
 
-from changedsame.errors import InvalidSorts, InvalidStraight, TooMany
+from changedsame.errors import InvalidStraight, TooMany
 from changedsame.partitions import all_bits, all_partitions
 from changedsame.rows import row_of
 from changedsame.spots import below
-from changedsame.straights import is_sorts, is_straight, names_of, own_sort
+from changedsame.straights import is_straight, names_of, own_sort
 
 MOST_CASES = 1000
 
@@ -24,9 +24,7 @@ def first_difference(one, other, sorts):
 
 
 def check_pair(one, other, sorts):
-    """Raises the error of what are no two straight parts of one own sort."""
-    if not is_sorts(sorts):
-        raise InvalidSorts(sorts)
+    """Raises the error of what are no sorts, or no two straight parts of one own sort."""
     if not is_straight(one, sorts):
         raise InvalidStraight(one)
     if not is_straight(other, sorts) or own_sort(other, sorts) != own_sort(one, sorts):

@@ -112,8 +112,6 @@ def clashes_of_inline(views, change):
 
 
 def clashes_of_drop(views, change):
-    if views.part[0] == "seq":
-        return []
     return views.uses_of(("local", views.place, 0), views.place)
 
 

@@ -187,6 +187,16 @@ class TestAlike(unittest.TestCase):
         self.assertFalse(same("= type t = A | B do A", "= type t = A | B do B"))
         self.assertFalse(same("= type t = A of list(int)", "= type t = A of option(int)"))
         self.assertTrue(same("= type list = Nil do Nil", "= type t = A do A"))
+        self.assertTrue(same("= do fn x -> x + 1 - (let a = x in a)", "= do fn y -> y + 1 - (let x = y in x)"))
+        self.assertTrue(same("= do fn x -> match x with (a, Some b) -> a end", "= do fn y -> match y with (b, Some a) -> b end"))
+        self.assertFalse(same("= do fn x -> match x with (a, Some b) -> a end", "= do fn y -> match y with (b, Some a) -> a end"))
+        self.assertFalse(same("= do fn x -> match x with (a, _) -> 1 end", "= do fn x -> match x with (_, a) -> 1 end"))
+        self.assertFalse(same("= type t('a) = A", "= type t = A"))
+        self.assertFalse(same("= type t('a, 'b) = A", "= type t('a) = A"))
+        for one, other in [("ref(int)", "ref(bool)"), ("array(unit)", "array(exn)"), ("int -> int", "int -> bool"), ("int -> int", "bool -> int"),
+                           ("int * bool", "bool * int"), ("list(int)", "list(bool)"), ("ref(int)", "array(int)")]:
+            self.assertFalse(same(f"= type t = A of {one}", f"= type t = A of {other}"))
+            self.assertTrue(same(f"= type t = A of {one}", f"= type u = B of {one}"))
         self.assertFalse(same("= type list = Nil do Nil", "= type t = A do Nil"))
         self.assertFalse(self.alike("module M = end module N = end", "module M = end"))
 

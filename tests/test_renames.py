@@ -100,6 +100,10 @@ class TestPlain(unittest.TestCase):
         self.look(("rename type", "A.t", "q"), ("type t('a)", "type q('a)"), ("of t(int)", "of q(int)"), ("A.t", "A.q"))
         self.look(("rename type", "B.f", "q"), ("type f = F of f", "type q = F of q"))
         self.look(("rename type", "B.t", "list"), ("type t = C of A.t", "type list = C of A.t"))
+        deep = "module M = type t = A type u('a) = B of ref(t) * array(list(t)) * 'a * (t -> t -> u(t)) exception E of (t -> int) * t end"
+        self.look(("rename type", "M.t", "q"), ("type t", "type q"), ("ref(t)", "ref(q)"), ("list(t)", "list(q)"), ("t -> t -> u(t)", "q -> q -> u(q)"),
+                  ("(t -> int) * t", "(q -> int) * q"), text=deep)
+        self.look(("rename type", "M.u", "q"), ("type u", "type q"), ("-> u(t)", "-> q(t)"), text=deep)
         self.look(("rename constructor", "A.C", "Q"), ("x, C,", "x, Q,"), ("= C of 'a", "= Q of 'a"), ("A.C", "A.Q"))
         self.look(("rename constructor", "B.C", "Q"), ("type t = C of", "type t = Q of"))
         self.look(("rename constructor", "A.E", "Q"), ("C, E = type", "C, Q = type"), ("exception E of", "exception Q of"), ("A.E", "A.Q"))
@@ -214,6 +218,9 @@ class TestDecided(unittest.TestCase):
         for maker in whole.cons():
             if "." in maker[0]:
                 yield ("rename constructor", maker[0], rand.choice(bigs))
+        for decl in whole.decls():
+            if decl[0] == "type":
+                yield ("rename type", decl[1], rand.choice(smalls + ["list"]))
         for module in program:
             yield ("rename module", module[1], rand.choice(bigs))
 

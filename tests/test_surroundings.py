@@ -25,6 +25,8 @@ UNLIKE = [
     ("end/end", "r := 1", "()"), ("end/end", "s := x", "()"), ("end/end", "r := !s", "s := !r"), ("end/end", "f 1; !r", "f 1; !s"),
     ("end/end", "f 1", "f 1; 0"), ("end/end", "f 1 + f 2", "f 1; f 2"), ("end/end", "ask()", "ask(); 0"), ("end/end", "ask() + ask()", "ask() - ask()"),
     ("end/end", "f 1; r := 1", "f 1; ()"), ("end/end", "f 1; f 2; !s", "f 1; let a = !s in f 2; a"), ("end/end", "2147483647 * x", "x - x"),
+    ("end/end", "f 1; f 2; !r", "f 1; f 2; 0"), ("end/end", "f 1; f 2; f 3; !r + !s", "f 1; f 2; f 3; 2 * !s"),
+    ("end/end", "f 1; f (f 2)", "f 1; f (f 2); 0"),
     ("end/end", "if t 1 then 1 else 2", "if t 1 then 2 else 2"), ("end/end", "if b then 1 else 2", "if b then 1 else 3"),
     ("tell/tell", "tell(1); ()", "tell(2); ()"), ("tell/tell", "tell(x)", "tell(y)"), ("tell/tell", "f 1; tell(!r)", "f 1; tell(!s)"),
     ("tell/end", "tell(1)", "()"), ("end/tell", "5", "tell(101); 5"), ("tell/end", "tell(101); tell(201)", "()"), ("tell/tell", "tell(5); tell(101)", "tell(5); tell(102)"),
