@@ -2,15 +2,18 @@
 
 from changedsame.basics import is_short_name, word_of
 from changedsame.sights import sights
-from changedsame.spots import found_at, inner_at, with_expr_at, with_inner_at
+from changedsame.spots import children, decl_exprs, decls_of, found_at, inner_at, outermost, with_children, with_decl
+from changedsame.spots import with_decl_exprs, with_inner_at
 from changedsame.trees import is_expr
 from changedsame.verdicts import fault_of
+
+UNIT = ("unit",)
 
 MANY_PARTS = {"replace": 3, "swap": 2, "inline": 2, "extract": 4, "share": 4, "drop": 2}
 
 
 def is_part_change(program, value):
-    """Whether any value is a change of a part that fits; in a program with faults any expression may replace a part."""
+    """Whether any value is a change of a part that fits."""
     word = word_of(value)
     if word not in MANY_PARTS or len(value) != MANY_PARTS[word]:
         return False
@@ -29,8 +32,29 @@ def is_part_change(program, value):
 
 
 def has_no_new_fault(program, place, expr):
-    """Whether a program with another expression at a place is resolved, or is not resolved as it is either."""
-    return fault_of(with_expr_at(program, place, expr)) is None or fault_of(program) is not None
+    """Whether no name in an expression is at fault at a place; faults elsewhere are no matter of the change."""
+    return fault_of(alone_at(program, place, expr)) is None or fault_of(alone_at(program, place, UNIT)) is not None
+
+
+def alone_at(program, place, expr):
+    """The program with an expression at a place, and unit in the place of all expressions that are not around it."""
+    begin = outermost(program, place)
+    for at, decl in decls_of(program):
+        exprs = []
+        for steps, inner in decl_exprs(decl):
+            exprs.append(alone_within(inner, place[len(begin):], expr) if at + steps == begin else UNIT)
+        program = with_decl(program, at, with_decl_exprs(decl, exprs))
+    return program
+
+
+def alone_within(holder, steps, expr):
+    """The same of an expression, and of where some steps lead from it."""
+    if not steps:
+        return expr
+    inside = children(holder)
+    parts = [UNIT] * len(inside)
+    parts[steps[0]] = alone_within(inside[steps[0]], steps[1:], expr)
+    return with_children(holder, parts)
 
 
 def is_inside(place, other):

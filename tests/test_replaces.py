@@ -38,6 +38,14 @@ class TestNewPart(unittest.TestCase):
             self.assertIs(type(error_of(new_part, program, ("swap", (0, 1)))), NotAccepted)
             self.assertIs(type(error_of(new_part, program, ("swap", (0, 0)))), InvalidChange)
             self.assertIs(type(error_of(new_part, program, ("replace", (0, 1), ("unit",)))), NotAccepted)
+        unbound = parse("module M = do z do fn x -> (x, z) end")
+        for place in ((0, 0), (0, 1), (0, 1, 0), (0, 1, 0, 0), (0, 1, 0, 1)):
+            self.assertIs(type(error_of(new_part, unbound, ("replace", place, ("int", 1)))), NotAccepted)
+            self.assertIs(type(error_of(new_part, unbound, ("replace", place, ("var", "y")))), InvalidChange)
+            wanted = NotAccepted if len(place) > 2 else InvalidChange
+            self.assertIs(type(error_of(new_part, unbound, ("replace", place, ("var", "x")))), wanted)
+        twice = parse("module M = let a = 1 let a = 2 do a end")
+        self.assertIs(type(error_of(new_part, twice, ("replace", (0, 2), ("var", "a")))), NotAccepted)
         typed = parse("module M = do 1 end")
         self.assertEqual(new_part(typed, ("replace", (0, 0), parse_expr("1 + true"))), ("part", parse_expr("1 + true")))
 
