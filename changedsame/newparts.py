@@ -94,13 +94,9 @@ class Views:
         """What stands at a place within the part."""
         return inner_at(self.part, place[len(self.place):])
 
-    def with_inner(self, place, expr):
-        """The part with another expression at a place within it."""
-        return with_inner_at(self.part, place[len(self.place):], expr)
-
-    def uses_of(self, binder, place):
-        """The list of the places of the uses of a binder within what stands at a place."""
-        return [at for at, _, told in self.found if told == binder and at[:len(place)] == place]
+    def uses(self):
+        """The list of the places of the uses of the first name that the part binds."""
+        return [at for at, _, told in self.found if told == ("local", self.place, 0)]
 
     def free_uses(self, place):
         """The list of the uses of names that are free in what stands at a place."""
@@ -128,7 +124,7 @@ def clashes_of_inline(views, change):
     place = views.place
     free = [(name, binder) for _, name, binder in views.free_uses(place + (0,)) if name != views.part[1]]
     found = []
-    for at in views.uses_of(("local", place, 0), place):
+    for at in views.uses():
         around = views.around[at]
         if [name for name, binder in free if around.get(name, binder) != binder]:
             found.append(at)
@@ -136,7 +132,7 @@ def clashes_of_inline(views, change):
 
 
 def clashes_of_drop(views, change):
-    return views.uses_of(("local", views.place, 0), views.place)
+    return views.uses()
 
 
 def clashes_of_naming(views, change):
@@ -170,9 +166,9 @@ def swapped(views, change):
 
 
 def inlined(views, change):
-    place, part = views.place, views.part
-    for at in views.uses_of(("local", place, 0), place):
-        part = with_inner_at(part, at[len(place):], views.part[2])
+    part = views.part
+    for at in views.uses():
+        part = with_inner_at(part, at[len(views.place):], views.part[2])
     return part[3]
 
 

@@ -3,7 +3,6 @@
 from changedsame.basics import PRIMS
 from changedsame.readpatterns import number_of, read_pattern
 
-OPEN_WORDS = ("fn", "let", "rec", "if")
 SMALL_KINDS = ("number", "name", "big")
 SMALL_WORDS = (
     "!", "true", "false", "(", "match", "try", "not", "ref", "size", "tell", "same", "array", "at", "place", "ask",

@@ -29,7 +29,7 @@ def is_sorts(value):
     for told in value:
         if not isinstance(told, tuple) or len(told) != 2 or not is_short_name(told[0]):
             return False
-        if not isinstance(told[1], str) or told[1] not in SORTS:
+        if told[1] not in SORTS:
             return False
     if not all_unlike([name for name, _ in value]):
         return False
@@ -123,7 +123,7 @@ def if_sort(expr, env):
     if not is_open_bool and not is_call_of("test", test, env):
         return None
     sort = sort_within(first, env)
-    return sort if sort is not None and sort_within(last, env) == sort else None
+    return sort if sort_within(last, env) == sort else None
 
 
 STRAIGHTS = {"prim": prim_sort, "call": call_sort, "let": let_sort, "seq": seq_sort, "if": if_sort}

@@ -125,6 +125,9 @@ class TestBinders(unittest.TestCase):
         self.assertEqual((type(error), error.value), (InvalidUse, (0, 0)))
         for call in (uses, name_of):
             look_at_errors(self, call, [("program", program), ("binder", ("local", (0, 0), 0))], [first, binder])
+        rec = parse("module M = rec f x = x do 1 end")
+        look_at_errors(self, uses, [("program", rec), ("binder", ("local", (0, 0), 0))], [("binder", InvalidBinder, [
+            ("local", (0, False), 0), ("local", (False, 0), 0), ("local", (0, 0), 1), ("local", (0, 1), 0), ("local", (0, 0, 0), 0)])])
         look_at_errors(self, are_alike_but_names, [("program", program), ("other", program)],
                        [first, ("other", InvalidProgram, bad_for(is_program))])
 
@@ -187,6 +190,8 @@ class TestAlike(unittest.TestCase):
         self.assertFalse(same("= type t = A | B do A", "= type t = A | B do B"))
         self.assertFalse(same("= type t = A of list(int)", "= type t = A of option(int)"))
         self.assertTrue(same("= type list = Nil do Nil", "= type t = A do A"))
+        self.assertTrue(same("= type t = A type u = B of t let t = 1", "= type t = A type u = B of t let v = 1"))
+        self.assertFalse(same("= type t = A type u = B of t let t = 1", "= type t = A type u = B of u let v = 1"))
         self.assertTrue(same("= do fn x -> x + 1 - (let a = x in a)", "= do fn y -> y + 1 - (let x = y in x)"))
         self.assertTrue(same("= do fn x -> match x with (a, Some b) -> a end", "= do fn y -> match y with (b, Some a) -> b end"))
         self.assertFalse(same("= do fn x -> match x with (a, Some b) -> a end", "= do fn y -> match y with (b, Some a) -> a end"))

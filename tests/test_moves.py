@@ -78,6 +78,8 @@ class TestPlain(unittest.TestCase):
     def test_positions(self):
         text = "module M = let a = 1 let b = 2 let c = 3 end module N = let d = 4 end"
         self.look(text, ("move", "M.a", "M", 0), text)
+        self.look("module M = type a = A exception B let a = 1 rec b x = a end", ("move", "M.a", "M", 0),
+                  "module M = let a = 1 type a = A exception B rec b x = a end")
         self.look(text, ("move", "M.a", "M", 1), "module M = let b = 2 let a = 1 let c = 3 end module N = let d = 4 end")
         self.look(text, ("move", "M.a", "M", 2), "module M = let b = 2 let c = 3 let a = 1 end module N = let d = 4 end")
         self.look(text, ("move", "M.c", "M", 0), "module M = let c = 3 let a = 1 let b = 2 end module N = let d = 4 end")

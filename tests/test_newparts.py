@@ -33,10 +33,14 @@ class TestChanges(unittest.TestCase):
                 (("extract", (0, 3, 0), (0, 3), "a"), False), (("extract", (0, 3, 0), (0, 2, 0), "a"), False), (("extract", (0, 3, 0, 1), (0, 3, 0), "a"), False),
                 (("share", (0, 3, 0), (0, 3, 0, 0), "x"), True), (("share", (0, 3, 0), (0, 3, 0, 0), "M.x"), False),
                 (("share", (0, 3, 0), (0, 3, 0, 0), "A"), False), (("share", (0, 3, 0), (0, 3, 0, 7), "a"), False), (("swap", (0, 1), 1), False),
+                (("extract", (0, 3, 0), (0, 1, 0, 0), "a"), False), (("share", (0, 3, 0), (0, 3, 1, 0), "a"), False),
                 (["swap", (0, 1)], False), (("swap", [0, 1]), False), (("unfold", (0, 1)), False), (("drop", (0, 9)), False), (("swap",), False)]:
             self.assertIs(keeps(self, is_part_change, program, change), fits, change)
         for value in ODD:
             self.assertIs(is_part_change(program, value), False)
+        for text in ("fn x -> fn y -> 1", "if true then 1 else if true then 2 else 3", "raise (raise Bounds)", "fn x -> x (x x)", "Some (Some 1)",
+                     "(1, (2, 3))", "let x = 1 in (1; 2)", "(1; let x = 1 in 2)", "let x = (let y = 1 in y) in x", "((1; 2); 3)"):
+            self.assertIs(is_part_change(parse(f"module M = do {text} end"), ("swap", (0, 0))), False, text)
 
     def test_too_large_ones_fit(self):
         many = ("int", 1)
@@ -125,6 +129,8 @@ class TestNewParts(unittest.TestCase):
         self.assertEqual(told("share", (1, 1), (1, 1, 1), "a"), ("part", parse_expr("let a = A.v in (v, a, fn v -> (v, a, v))")))
         self.assertEqual(told("share", (1, 1), (1, 1, 0), "a"), ("part", parse_expr("let a = v in (a, A.v, fn v -> (v, A.v, v))")))
         self.assertEqual(told("share", (1, 1), (1, 1, 1), "v"), ("clash", (1, 1, 0)))
+        others = parse("module M = let g = 1 do (g, Some g) do (g, fn g -> g) end")
+        self.assertEqual(new_part_of(others, ("share", (0, 2), (0, 2, 0), "k")), ("part", parse_expr("let k = g in (k, fn g -> g)")))
         self.assertEqual(told("share", (1, 2), (1, 2, 0), "v"), ("clash", (1, 2, 0)))
         self.assertEqual(told("inline", (1, 3)), ("clash", (1, 3, 1, 0)))
         self.assertEqual(told("inline", (1, 4)), ("part", parse_expr("fn v -> A.v")))

@@ -104,6 +104,11 @@ class TestPlain(unittest.TestCase):
         self.look(("rename type", "M.t", "q"), ("type t", "type q"), ("ref(t)", "ref(q)"), ("list(t)", "list(q)"), ("t -> t -> u(t)", "q -> q -> u(q)"),
                   ("(t -> int) * t", "(q -> int) * q"), text=deep)
         self.look(("rename type", "M.u", "q"), ("type u", "type q"), ("-> u(t)", "-> q(t)"), text=deep)
+        both = "module M show t, A = type t = A type u = B of t let t = 1 rec u t = u t do t end"
+        self.look(("rename type", "M.t", "q"), ("type t", "type q"), ("of t", "of q"), text=both)
+        self.look(("rename type", "M.u", "q"), ("type u", "type q"), text=both)
+        self.look(("rename value", "M.t", "q"), ("show t", "show q"), ("let t", "let q"), ("do t", "do q"), text=both)
+        self.look(("rename value", "M.u", "q"), ("rec u t = u t", "rec q t = q t"), text=both)
         self.look(("rename constructor", "A.C", "Q"), ("x, C,", "x, Q,"), ("= C of 'a", "= Q of 'a"), ("A.C", "A.Q"))
         self.look(("rename constructor", "B.C", "Q"), ("type t = C of", "type t = Q of"))
         self.look(("rename constructor", "A.E", "Q"), ("C, E = type", "C, Q = type"), ("exception E of", "exception Q of"), ("A.E", "A.Q"))

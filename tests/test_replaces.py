@@ -44,6 +44,11 @@ class TestNewPart(unittest.TestCase):
             self.assertIs(type(error_of(new_part, unbound, ("replace", place, ("var", "y")))), InvalidChange)
             wanted = NotAccepted if len(place) > 2 else InvalidChange
             self.assertIs(type(error_of(new_part, unbound, ("replace", place, ("var", "x")))), wanted)
+        deep = parse("module M = do z do fn x -> fn y -> match x with v -> (let w = y in (w, z), z) end end")
+        for name, place in [("x", (0, 1, 0, 0)), ("y", (0, 1, 0, 0)), ("v", (0, 1, 0, 0, 1, 1)), ("y", (0, 1, 0, 0, 1, 0, 1)), ("w", (0, 1, 0, 0, 1, 0, 1, 1))]:
+            self.assertIs(type(error_of(new_part, deep, ("replace", place, ("var", name)))), NotAccepted, (name, place))
+            self.assertIs(type(error_of(new_part, deep, ("replace", place[:-1], ("var", "w")))), {
+                (0, 1, 0, 0, 1, 0, 1): NotAccepted}.get(place[:-1], InvalidChange))
         twice = parse("module M = let a = 1 let a = 2 do a end")
         self.assertIs(type(error_of(new_part, twice, ("replace", (0, 2), ("var", "a")))), NotAccepted)
         typed = parse("module M = do 1 end")

@@ -110,6 +110,7 @@ class TestReachable(unittest.TestCase):
         store.put(2, 2, ("tuple", (("unit",), ("con", "C", ("cell", 1)))))
         self.assertEqual(reachable(store, [("cell", 1)]), [1, 2])
         self.assertEqual(reachable(store, [("cell", 2), ("cell", 5)]), [1, 2, 5])
+        self.assertEqual(reachable(store, [("con", "Nil", None), ("tuple", (("con", "Nil", None), ("cell", 3)))]), [3])
         store.put(5, 1, ("cell", 5))
         self.assertEqual(keeps(self, lambda roots: reachable(store, roots), [("cell", 5)]), [5])
         self.assertEqual(reachable(store, [("cell", 0)] * 200), [0])

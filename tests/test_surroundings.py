@@ -38,6 +38,11 @@ UNLIKE = [
     ("test/test", "if t 1 then 1 else 2", "if t 2 then 1 else 2"), ("test/test", "r := 1; if t 1 then 1 else 2", "if t 1 then 1 else 2"),
     ("test/end", "if t 1 then 1 else 1", "1"), ("test/ask", "(if t 1 then 1 else 1) + ask()", "let a = ask() in (if t 1 then 1 else 1) + a"),
     ("test/tell", "(if t 1 then 1 else 1); tell(107)", "tell(107); if t 1 then () else ()"),
+    # What is told here is what the surroundings would tell if they did not look at it first.
+    ("tell/call", "tell(107); tell(0); tell(1); 0", "f 1; 0"), ("call/tell", "f 1; 0", "tell(107); tell(0); tell(1); 0"),
+    ("tell/test", "tell(108); tell(0); tell(1); 0", "if t 1 then 0 else 0"),
+    ("ask/ask", "tell(5); r := 1; let a = ask() in r := 2; a", "tell(5); r := 3; let a = ask() in r := 2; a"),
+    ("end/end", "if t 1 then 1 else if t 2 then 2 else 3", "if t 1 then 1 else if t 2 then 4 else 3"),
     ("end/test", "if t 1 then (if t 2 then 1 else 2) else 3", "if t 1 then 1 else (if t 2 then 3 else 3)"),
 ]
 
@@ -141,10 +146,24 @@ class TestIsParting(unittest.TestCase):
                 ("module M = rec f x = f (x + 1) do f 1 end", "module M = rec f x = f (x + 2) do f 1 end"),
                 ("module M = rec f x = tell(x); f (x + 1) do f 1 end", "module M = rec f x = tell(x); f (x + 2) do f 1 end")]:
             self.assertIs(self.told(one, other), False, (one, other))
+        loops = "rec go x = go x let n = PART do (tell(n); if n = "
+        for text in (loops + "5 then go 1 else 2)", loops + "6 then go 1 else 2)"):
+            one = f"module M = let x = 4 {text} end"
+            self.assertIs(self.told(one.replace("PART", "x + 1"), one.replace("PART", "x + 2")), False, text)
         text = "module M = rec f n = if n = 0 then 0 else f (n - 1) let x = 4 do (f MANY; tell(x + 1)) end"
         for many, is_enough in ((1999, True), (2000, False)):
             one = text.replace("MANY", str(many))
             self.assertIs(self.told(one, one.replace("x + 1", "x + 2")), is_enough)
+
+    def test_other_parts(self):
+        near, far = "module M = let x = 4 do tell(x + 1) end", "module M = let x = 4 do tell(x + 2) end"
+        for one, other in [("x + 3", "x + 2"), ("x + 1", "x + 3"), ("x + 3", "x + 4"), ("x + 2", "x + 1"), ("1 + x", "2 + x")]:
+            self.assertIs(self.told(near, far, [], parse_expr(one), parse_expr(other)), False, (one, other))
+        for near, far, one, other in [
+                ("do tell(1)", "do tell(y)", "1", "y"), ("let y = true do tell(1)", "let y = true do tell(y)", "1", "y"),
+                ("do tell(y)", "do tell(1)", "y", "1"), ("let y = true do tell(y)", "let y = true do tell(1)", "y", "1")]:
+            near, far = f"module M = {near} end", f"module M = {far} end"
+            self.assertIs(self.told(near, far, [], parse_expr(one), parse_expr(other)), False, (near, far))
 
     def test_any_value(self):
         near, far = parse("module M = let x = 4 do tell(x + 1) end"), parse("module M = let x = 4 do tell(x + 2) end")
