@@ -33,7 +33,7 @@ def is_part_change(program, value):
 
 def has_no_new_fault(program, place, expr):
     """Whether no name in an expression is at fault at a place; faults elsewhere are no matter of the change."""
-    return fault_of(alone_at(program, place, expr)) is None or fault_of(alone_at(program, place, UNIT)) is not None
+    return fault_of(alone_at(program, place, expr)) == fault_of(alone_at(program, place, UNIT))
 
 
 def alone_at(program, place, expr):

@@ -51,6 +51,9 @@ class TestNewPart(unittest.TestCase):
                 (0, 1, 0, 0, 1, 0, 1): NotAccepted}.get(place[:-1], InvalidChange))
         twice = parse("module M = let a = 1 let a = 2 do a end")
         self.assertIs(type(error_of(new_part, twice, ("replace", (0, 2), ("var", "a")))), NotAccepted)
+        hidden = parse("module M show b = let a = 1 do a end")
+        self.assertIs(type(error_of(new_part, hidden, ("replace", (0, 1), ("var", "a")))), NotAccepted)
+        self.assertIs(type(error_of(new_part, hidden, ("replace", (0, 1), ("var", "c")))), InvalidChange)
         typed = parse("module M = do 1 end")
         self.assertEqual(new_part(typed, ("replace", (0, 0), parse_expr("1 + true"))), ("part", parse_expr("1 + true")))
 
