@@ -37,6 +37,16 @@ def free_in(expr):
     return found
 
 
+def free_uses(steps, expr, bound):
+    """The list of the tuples (steps, name) of the uses in an expression of names that are not bound."""
+    if expr[0] == "var":
+        return [] if expr[1] in bound else [(steps, expr[1])]
+    uses = []
+    for k, inner in enumerate(scopes(expr)):
+        uses.extend(free_uses(steps + (k,), inner[1], bound + inner[0]))
+    return uses
+
+
 def fresh_name(old, new, exprs, barred):
     """The first name made of the new one that is neither free in the expressions nor one of those barred."""
     used = {old: True, new: True}

@@ -136,16 +136,23 @@ def type_at(program, place):
     finder, position = found(whole)
     if position is not None:
         raise NotAccepted()
-    return type_found(program, finder, place)
+    return types_found(program, finder, [place])[0]
 
 
-def type_found(program, finder, place):
-    """The same where the types of the program are found."""
-    all_places = [at for at, _ in all_exprs(program)]
-    told = finder.solver.known(finder.found[all_places.index(place)])
-    decl = program[place[0]][3][place[1]]
-    is_general = decl[0] == "rec" or (decl[0] == "let" and is_value(decl[2]))
+def types_found(program, finder, wanted):
+    """The list of the types at some places, where the types of the program are found."""
+    numbers = {at[0]: k for k, at in enumerate(all_exprs(program))}
     around = finder.loose_around({})
+    types = []
+    for place in wanted:
+        decl = program[place[0]][3][place[1]]
+        is_general = decl[0] == "rec" or (decl[0] == "let" and is_value(decl[2]))
+        types.append(plain_type(finder.solver.known(finder.found[numbers[place]]), is_general, around))
+    return types
+
+
+def plain_type(told, is_general, around):
+    """A type that was found, with what is fixed by nothing as unit, or numbered anew where it may be anything."""
     table = {}
     many = 0
     for number in leaves_of(told, "unknown"):

@@ -20,6 +20,11 @@ def early_children(expr):
     """The list of the numbers of an expression's early children."""
     if not is_expr(expr):
         raise InvalidExpr(expr)
+    return early_of(expr)
+
+
+def early_of(expr):
+    """The same of what is known to be an expression."""
     many = len(children(expr))
     if expr[0] in EARLY_FIRST:
         return list(range(min(many, 1)))

@@ -21,8 +21,8 @@ class Move:
         homes = [told[1] for told in program]
         source, _, short = name.partition(".")
         self.source = homes.index(source)
-        self.at = [k for k, decl in enumerate(program[self.source][3]) if short in declared_values(decl)][0]
-        self.decl = program[self.source][3][self.at]
+        self.decl_at = [k for k, decl in enumerate(program[self.source][3]) if short in declared_values(decl)][0]
+        self.decl = program[self.source][3][self.decl_at]
         self.target = homes.index(module)
         self.position = position
         self.homes = homes
@@ -30,9 +30,9 @@ class Move:
     def behind(self, place):
         """The place in the plain result of what stands at a place."""
         at, k = place[:2]
-        if (at, k) == (self.source, self.at):
+        if (at, k) == (self.source, self.decl_at):
             return (self.target, self.position) + place[2:]
-        if at == self.source and k > self.at:
+        if at == self.source and k > self.decl_at:
             k = k - 1
         if at == self.target and k >= self.position:
             k = k + 1
@@ -102,13 +102,13 @@ def is_decl_place(program, value):
 def plain_result(program, whole, move):
     """The plain result of a move that is known to fit."""
     result = rewritten(program, new_names(program, whole, move), {})
-    decl = result[move.source][3][move.at]
+    decl = result[move.source][3][move.decl_at]
     shows = new_shows(program, move)
     told = []
     for at, module in enumerate(result):
         decls = list(module[3])
         if at == move.source:
-            del decls[move.at]
+            del decls[move.decl_at]
         if at == move.target:
             decls.insert(move.position, decl)
         told.append(("module", module[1], shows[at], tuple(decls)))
@@ -120,7 +120,7 @@ def new_names(program, whole, move):
     table = move.new_wholes()
     used = {}
     for place, k, kind, _, meaning in occurrences(program, whole):
-        is_inside = place[:2] == (move.source, move.at)
+        is_inside = place[:2] == (move.source, move.decl_at)
         if not isinstance(meaning, tuple) and (is_inside or (kind, meaning) in table):
             home = move.homes[move.target if is_inside else place[0]]
             used[(place, k)] = seen_from(home, table.get((kind, meaning), meaning))

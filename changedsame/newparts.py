@@ -107,6 +107,11 @@ class Views:
         return [at for at, told, _ in self.free_uses(place) if told == name]
 
 
+def uses_of_first(program, place):
+    """The list of the places of the uses of the first name that the part at a place binds."""
+    return Views(program, place).uses()
+
+
 def is_bound_in(binder, place):
     """Whether what a name means is a binder of what stands at a place, or within it."""
     return isinstance(binder, tuple) and binder[1][:len(place)] == place

@@ -43,12 +43,17 @@ def put_at(program, place, expr):
 def put_within(program, place, expr):
     """The same of what is known to be right; raises what makes it too large."""
     told = with_expr_at(program, place, expr)
-    parts, depth = size_of("program", told)
+    check_size(told)
+    return told
+
+
+def check_size(program):
+    """Raises the error of what would be a program if it were not too large."""
+    parts, depth = size_of("program", program)
     if parts > MOST_PARTS:
         raise TooMany("parts", MOST_PARTS)
     if depth > MOST_DEPTH:
         raise TooMany("depth", MOST_DEPTH)
-    return told
 
 
 def holders(program, place):
