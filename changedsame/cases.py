@@ -70,7 +70,7 @@ class Case:
 
     def __init__(self, program, change, result):
         place = change[1]
-        self.program = program
+        self.base = program
         self.change = change
         self.result = result
         self.rules, self.others = found_at(program, place)[2], found_at(result, place)[2]
@@ -86,7 +86,7 @@ class Case:
             return None
         place = self.change[1]
         near, far = self.rules[k], self.others[other]
-        return Pair(self.program, place + (k + 1,), near, self.result, place + (other + 1,), far)
+        return Pair(self.base, place + (k + 1,), near, self.result, place + (other + 1,), far)
 
     def first_reason(self):
         """The reason of the first way that leads to rules that are not told to be alike; None without one."""
@@ -114,7 +114,7 @@ class Case:
         for _, near, far in self.unlike:
             anew[origins[far] if near == k else near] = True
         steps = []
-        program = self.program
+        program = self.base
         for at in sorted(anew):
             body = written_with(self.rules[k], self.rules[at])
             program = stepped(program, steps, ("rows", place + (at + 1,), body))

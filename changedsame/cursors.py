@@ -5,12 +5,17 @@ from changedsame.tokens import tokens_of
 
 
 class Cursor:
-    """The tokens of a text, and which of them comes next; behind the last one there is an empty one."""
+    """The tokens of a text, and which of them comes next; behind the last one there is an empty one.
+
+    Of what is read it keeps where each module's head and declarations stand: the first token, and that behind them.
+    """
 
     def __init__(self, text):
         self.tokens = tokens_of(text)
         self.tokens.append(("end", "", len(text)))
         self.spot = 0
+        self.heads = []
+        self.decl_marks = []
 
     def token_kind(self):
         """The kind of the next token."""

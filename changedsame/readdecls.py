@@ -20,13 +20,19 @@ def read_program(cursor):
 
 
 def read_module(cursor):
+    begin = cursor.spot
     cursor.want("module")
     name = cursor.take_big()
     shows = read_shows(cursor) if cursor.takes("show") else None
     cursor.want("=")
+    cursor.heads.append((begin, cursor.spot))
     decls = []
+    marks = []
     while len(decls) < MOST_DECLS and cursor.word() in DECL_WORDS:
+        begin = cursor.spot
         decls.append(read_decl(cursor))
+        marks.append((begin, cursor.spot))
+    cursor.decl_marks.append(marks)
     cursor.want("end")
     return ("module", name, shows, tuple(decls))
 

@@ -17,18 +17,18 @@ class Trail:
     """A program on its way, and the steps that led there."""
 
     def __init__(self, program):
-        self.program = program
+        self.base = program
         self.steps = []
 
     def stands(self, place):
         """The expression at a place of the program that there is now."""
-        return found_at(self.program, place)
+        return found_at(self.base, place)
 
     def put(self, rule, place, more):
         """Changes the trail by a step; raises what makes the program too large."""
-        told = with_expr_at(self.program, place, more)
+        told = with_expr_at(self.base, place, more)
         check_size(told)
-        self.program = told
+        self.base = told
         self.steps.append((rule, place, more))
 
 
@@ -171,7 +171,7 @@ def flip_paper(program, change):
     """The list of the steps of a flip that is taken."""
     trail = Trail(program)
     while True:
-        calls = [call_of_two(trail.program, place) for place in uses_of(trail.program, change[1])]
+        calls = [call_of_two(trail.base, place) for place in uses_of(trail.base, change[1])]
         both = [place for place in calls if both_work(trail.stands(place))]
         if not both:
             break

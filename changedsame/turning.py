@@ -39,19 +39,19 @@ class Turn:
     """A change of the sequence of a constructor's parts, and the uses of this constructor in a program."""
 
     def __init__(self, program, con, order):
-        self.program = program
+        self.base = program
         self.module, _, self.short = con.partition(".")
         self.order = order
         self.found = uses_of_con(program, con)
 
     def makings(self):
         """The list of the tuples (place, expression) of the makings."""
-        told = all_exprs(self.program)
+        told = all_exprs(self.base)
         return [(place, expr) for place, expr in told if expr[0] == "con" and (place, 0) in self.found]
 
     def barred(self):
         """The first place of a making without a tuple, or of a match or try that names a whole argument; else None."""
-        for place, expr in all_exprs(self.program):
+        for place, expr in all_exprs(self.base):
             if expr[0] == "con" and (place, 0) in self.found and expr[2][0] != "tuple":
                 return place
             if expr[0] in ("match", "try"):
@@ -72,11 +72,11 @@ class Turn:
 
     def turned(self):
         """The program with the tuples turned, where all parts are still."""
-        result = self.program
-        for place, decl in decls_of(self.program):
+        result = self.base
+        for place, decl in decls_of(self.base):
             exprs = [self.turned_expr(place + steps, expr) for steps, expr in decl_exprs(decl)]
             told = with_decl_exprs(decl, exprs)
-            if self.program[place[0]][1] == self.module:
+            if self.base[place[0]][1] == self.module:
                 told = self.turned_decl(told)
             result = with_decl(result, place, told)
         return result

@@ -14,7 +14,7 @@ class Book:
 
     def __init__(self):
         self.told = []
-        self.names = []
+        self.value_list = []
         self.makers = list(BASE_CONS)
         self.scope = Scope({}, None, 0)
 
@@ -48,7 +48,7 @@ def check_shows(home):
 def add_value(book, home, name):
     """Changes both: from here on the module has this value."""
     home.vals[name] = True
-    book.names.append(home.whole(name))
+    book.value_list.append(home.whole(name))
 
 
 def whole_data_decl(book, home, decl):

@@ -12,7 +12,7 @@ class Whole:
 
     def __init__(self, book):
         self.told = list(book.told)
-        self.names = list(book.names)
+        self.value_list = list(book.value_list)
         self.makers = list(book.makers)
         self.homes = {name: book.scope.homes[name] for name in book.scope.homes}
         self.labels = book.scope.label
@@ -23,7 +23,7 @@ class Whole:
 
     def value_names(self):
         """The list of the whole names of all values, in the sequence in which they are declared."""
-        return list(self.names)
+        return list(self.value_list)
 
     def cons(self):
         """The list of the tuples (whole name, type, parameters, argument) of all constructors."""

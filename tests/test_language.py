@@ -12,7 +12,7 @@ BUILTINS = set(
     "len range enumerate zip min max sum abs sorted reversed int str bool bytes list tuple dict set frozenset "
     "isinstance ord repr any all divmod pow Exception ValueError TypeError KeyError IndexError LookupError "
     "ZeroDivisionError ArithmeticError OverflowError RuntimeError NotImplementedError AttributeError "
-    "StopIteration NotImplemented property".split()
+    "StopIteration NotImplemented property classmethod".split()
 )
 METHODS = set(
     "append clear copy count endswith extend find get index insert isalnum isalpha isdigit islower isspace isupper "
@@ -30,7 +30,7 @@ BARRED_WORDS = set(
 )
 # The name _ is there once an example has run.
 ALL_BUILTINS = set(dir(builtins)) - {"_"}
-DUNDERS = {"__init__", "__eq__", "__repr__", "__str__", "__len__"}
+DUNDERS = {"__init__", "__eq__", "__repr__", "__str__", "__len__", "__call__", "__iter__", "__contains__", "__getitem__"}
 STATEMENTS = (
     ast.Assign, ast.AugAssign, ast.If, ast.While, ast.For, ast.Return, ast.Break, ast.Continue, ast.Pass, ast.Raise,
     ast.Delete, ast.Try, ast.Expr, ast.FunctionDef,
@@ -100,8 +100,9 @@ class TestLanguage(unittest.TestCase):
                 if isinstance(node, ast.FunctionDef):
                     self.assertLessEqual(node.end_lineno - node.lineno + 1, 40, (path, node.name))
                     decorators = [part.id for part in node.decorator_list]
-                    self.assertIn(decorators, ([], ["property"]), (path, node.name))
-                    self.assertIsNone(node.args.vararg or node.args.kwarg)
+                    self.assertIn(decorators, ([], ["property"], ["classmethod"]), (path, node.name))
+                    self.assertIsNone(node.args.kwarg)
+                    self.assertTrue(node.args.vararg is None or node.args.args[0].arg == "self")
                     self.assertFalse(node.args.kwonlyargs or node.args.posonlyargs or node.returns)
 
     def test_module_level(self):
@@ -247,7 +248,22 @@ class TestLanguage(unittest.TestCase):
         of_builtins = set()
         for kind in (str, int, list, tuple, dict, set, frozenset, bytes):
             of_builtins |= {name for name in dir(kind) if not name.startswith("__")}
-        self.assertFalse((methods | attributes) & (of_builtins | BARRED))
+        self.assertFalse((methods | attributes) - {"copy"} & (of_builtins | BARRED))
+        self.assertFalse(((methods - {"copy"}) | attributes) & (of_builtins | BARRED))
+
+    def test_operators_change_nothing(self):
+        for path, tree in self.trees.items():
+            self.assertNotRegex(self.files[path], r"\(type\)|Meta|metaclass=", path)
+            for node in ast.walk(tree):
+                if isinstance(node, ast.ClassDef):
+                    told = {part.name: part for part in node.body if isinstance(part, ast.FunctionDef)}
+                    if "__getitem__" in told:
+                        self.assertEqual(ast.unparse(told["__iter__"].body[0])[:16], "raise TypeError(")
+                    for name in ("__getitem__", "__contains__", "__len__", "__eq__"):
+                        inner = list(ast.walk(told[name])) if name in told else []
+                        self.assertFalse([part for part in inner if isinstance(part, (ast.Assign, ast.AugAssign, ast.Delete))])
+                        calls = [ast.unparse(part.func) for part in inner if isinstance(part, ast.Call)]
+                        self.assertLessEqual(set(calls), {"isinstance", "len", "UnknownName"}, (path, name))
 
     def test_each_loop_leaves_what_it_goes_over(self):
         changing = {"append", "clear", "extend", "insert", "pop", "remove", "reverse", "setdefault", "update"}

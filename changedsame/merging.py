@@ -1,0 +1,63 @@
+"""Changes that commute, and two rows of changes that are merged."""
+
+from changedsame.deciding import taken
+from changedsame.errors import InvalidChanges, InvalidProgram
+from changedsame.leading import check_two, led_over
+from changedsame.trees import is_program
+from changedsame.works import Work, are_changes, does_take_all
+
+MOST_MERGED = 12
+
+
+def commute(program, change, other):
+    """Whether two changes are taken of a program, and commute."""
+    check_two(program, change, other)
+    return commuted(program, change, other) is not None
+
+
+def commuted(program, change, other):
+    """The tuple of both changes, each led over the other one, if they commute, else None."""
+    near, far = taken(program, change), taken(program, other)
+    if near is None or far is None:
+        return None
+    led_change = led_over(program, change, other, far)
+    led_other = led_over(program, other, change, near)
+    if led_change is None or led_other is None:
+        return None
+    result = taken(far, led_change)
+    return (led_change, led_other) if result is not None and result == taken(near, led_other) else None
+
+
+def merged(program, changes, others):
+    """("merged", the program, the merged row), or ("apart", the positions of the first pair that doesn't commute)."""
+    if not is_program(program):
+        raise InvalidProgram(program)
+    if not are_changes(changes, MOST_MERGED):
+        raise InvalidChanges(changes)
+    if not are_changes(others, MOST_MERGED):
+        raise InvalidChanges(others)
+    work, other_work = Work(program), Work(program)
+    if not does_take_all(work, changes):
+        raise InvalidChanges(changes)
+    if not does_take_all(other_work, others):
+        raise InvalidChanges(others)
+    row = list(changes)
+    for place, other in enumerate(others):
+        told = row_over(other_work.at(place), row, other)
+        if told[0] == "apart":
+            return ("apart", told[1], place)
+        _, row, led_other = told
+        work.apply(led_other)
+    return ("merged", work.newest(), tuple(work.changes()))
+
+
+def row_over(program, changes, other):
+    """("led", the list of a row's changes led over another one, that one led over the row), or ("apart", position)."""
+    row = []
+    for position, change in enumerate(changes):
+        told = commuted(program, change, other)
+        if told is None:
+            return ("apart", position)
+        row.append(told[0])
+        program, other = taken(program, change), told[1]
+    return ("led", row, other)
