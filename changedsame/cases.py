@@ -13,7 +13,7 @@ from changedsame.plaintrees import shape_of
 from changedsame.sights import sights
 from changedsame.spots import found_at, with_expr_at
 from changedsame.trees import is_expr, is_program
-from changedsame.wholes import resolved
+from changedsame.wholes import whole_of
 
 
 def is_case_change(value):
@@ -74,7 +74,7 @@ class Case:
         self.change = change
         self.result = result
         self.rules, self.others = found_at(program, place)[2], found_at(result, place)[2]
-        makers = resolved(program).cons()
+        makers = whole_of(program).cons()
         self.board, ways = ways_through(makers, whole_patterns(program, place), whole_patterns(result, place))
         self.unlike = [way for way in first_ways(ways) if not are_like_ways(way, self.rules, self.others)]
         self.pairs = [self.pair_of(way) for way in self.unlike]
@@ -165,5 +165,5 @@ def like_choices(program, place, match, other):
     near, far = with_expr_at(program, place, match), with_expr_at(program, place, other)
     if not is_accepted(near) or not is_accepted(far):
         return False
-    told = ways_through(resolved(near).cons(), whole_patterns(near, place), whole_patterns(far, place))
+    told = ways_through(whole_of(near).cons(), whole_patterns(near, place), whole_patterns(far, place))
     return told is not None and all([are_like_ways(way, match[2], other[2]) for way in first_ways(told[1])])

@@ -72,18 +72,17 @@ def behind(program, step):
     """The program to which a step leads, None if it isn't right, or comes to no accepted program."""
     rule, place, more = step
     try:
-        if rule in PROGRAM_RULES:
-            action = CHANGES[rule]
-            result = action(program, more) if place == () else None
-        else:
-            result = put_by(program, rule, place, more)
+        if rule not in PROGRAM_RULES:
+            return put_by(program, rule, place, more)
+        action = CHANGES[rule]
+        result = action(program, more) if place == () else None
     except TooMany:
         return None
     return result if result is not None and is_accepted(result) else None
 
 
 def put_by(program, rule, place, more):
-    """The program with another expression at a place, None if it is not related to the one there by the rule."""
+    """The program with another expression at a place, None if it is not accepted, or not related to the one there."""
     part = found_at(program, place)
     if part is None or not is_expr(more):
         return None

@@ -5,7 +5,7 @@ from changedsame.folds import free_of
 from changedsame.givens import decl_of_value
 from changedsame.senses import senses
 from changedsame.spots import children, decl_exprs, decls_of, found_at, with_children, with_decl, with_decl_exprs
-from changedsame.wholes import resolved
+from changedsame.wholes import whole_of
 
 
 def two_parameters(program, name):
@@ -20,13 +20,13 @@ def two_parameters(program, name):
 
 def is_flip(program, value):
     """Whether any value is the whole name of a function of two parameters."""
-    names = resolved(program).value_names()
+    names = whole_of(program).value_names()
     return isinstance(value, str) and value in names and two_parameters(program, value) is not None
 
 
 def uses_of(program, name):
     """The list of the places of the uses of a value, rising."""
-    return [place for place, kind, told in senses(program, resolved(program)) if kind == "value" and told == name]
+    return [place for place, kind, told in senses(program, whole_of(program)) if kind == "value" and told == name]
 
 
 def call_of_two(program, place):

@@ -11,7 +11,7 @@ from changedsame.places import check_size
 from changedsame.spots import found_at, with_expr_at
 from changedsame.trees import is_program
 from changedsame.verdicts import fault_of
-from changedsame.wholes import resolved
+from changedsame.wholes import whole_of
 
 
 def check_accepted(program):
@@ -99,5 +99,5 @@ def decided_function(program, change):
         reason = clash_behind(program, origins, result)
     if reason is not None:
         return ("refused", reason)
-    position = first_clash(resolved(result))
+    position = first_clash(whole_of(result))
     return ("taken", result) if position is None else ("refused", ("untyped", position))

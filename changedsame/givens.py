@@ -5,7 +5,7 @@ from changedsame.rewriting import rewritten_expr
 from changedsame.senses import occurrences
 from changedsame.sights import meaning, sights
 from changedsame.spots import decls_of, found_at
-from changedsame.wholes import resolved
+from changedsame.wholes import whole_of
 
 
 class Function:
@@ -80,7 +80,7 @@ def as_seen(program, expr, place, target):
         return expr
     home = program[target[0]][1]
     used = {}
-    for at, k, _, _, told in occurrences(program, resolved(program)):
+    for at, k, _, _, told in occurrences(program, whole_of(program)):
         if at[:len(place)] == place and not isinstance(told, tuple):
             used[(at, k)] = seen_from(home, told)
     return rewritten_expr(place, expr, used, {})

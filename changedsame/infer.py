@@ -3,7 +3,7 @@
 from changedsame.errors import Clash, InvalidWhole, MissingError, Twice, WrongArgument
 from changedsame.finding import Finder, Unlike, find, is_value, member_entries
 from changedsame.trees import is_program
-from changedsame.wholes import Whole, resolved, resolved_expr
+from changedsame.wholes import Whole, resolved_expr, whole_of
 
 
 def schemes(whole):
@@ -28,7 +28,7 @@ def is_accepted(program):
     if not is_program(program):
         return False
     try:
-        whole = resolved(program)
+        whole = whole_of(program)
     except (MissingError, Twice, WrongArgument):
         return False
     return first_clash(whole) is None

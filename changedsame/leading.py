@@ -11,7 +11,7 @@ from changedsame.renames import declared
 from changedsame.spots import found_at, with_expr_at
 from changedsame.trees import is_program
 from changedsame.turning import cases_of
-from changedsame.wholes import resolved
+from changedsame.wholes import whole_of
 
 
 def are_like_built(program, other):
@@ -109,7 +109,7 @@ class Way:
         if not self.is_like:
             return name
         sort = kind.partition(" ")[2]
-        return declared(resolved(self.after), sort)[declared(resolved(self.ahead), sort).index(name)]
+        return declared(whole_of(self.after), sort)[declared(whole_of(self.ahead), sort).index(name)]
 
     def led_con(self, place, name):
         """The name of a constructor, written as at a place, behind the change, with or without a module as it was."""

@@ -2,9 +2,10 @@
 
 from changedsame.deciding import taken
 from changedsame.errors import InvalidChanges, InvalidProgram
+from changedsame.infer import is_accepted
 from changedsame.leading import check_two, led_over
 from changedsame.trees import is_program
-from changedsame.works import Work, are_changes, does_take_all
+from changedsame.works import Work, are_changes, does_take_all, replayed
 
 MOST_MERGED = 12
 
@@ -32,15 +33,11 @@ def merged(program, changes, others):
     """("merged", the program, the merged row), or ("apart", the positions of the first pair that doesn't commute)."""
     if not is_program(program):
         raise InvalidProgram(program)
-    if not are_changes(changes, MOST_MERGED):
+    if not is_row(program, changes):
         raise InvalidChanges(changes)
-    if not are_changes(others, MOST_MERGED):
+    if not is_row(program, others):
         raise InvalidChanges(others)
-    work, other_work = Work(program), Work(program)
-    if not does_take_all(work, changes):
-        raise InvalidChanges(changes)
-    if not does_take_all(other_work, others):
-        raise InvalidChanges(others)
+    work, other_work = replayed(program, changes), replayed(program, others)
     row = list(changes)
     for place, other in enumerate(others):
         told = row_over(other_work.at(place), row, other)
@@ -49,6 +46,13 @@ def merged(program, changes, others):
         _, row, led_other = told
         work.apply(led_other)
     return ("merged", work.newest(), tuple(work.changes()))
+
+
+def is_row(program, value):
+    """Whether any value is a list of changes, each taken behind the ones ahead if the program is accepted at all."""
+    if not are_changes(value, MOST_MERGED):
+        return False
+    return not is_accepted(program) or does_take_all(Work(program), value)
 
 
 def row_over(program, changes, other):

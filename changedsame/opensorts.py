@@ -6,7 +6,7 @@ from changedsame.infer import found, is_accepted
 from changedsame.places import put_within
 from changedsame.spots import found_at
 from changedsame.straights import is_sorts, is_straight, own_sort
-from changedsame.wholes import resolved
+from changedsame.wholes import whole_of
 
 # Each sort, and the type of what has it.
 SORT_TYPES = (
@@ -26,7 +26,7 @@ def sort_named(told):
 def open_names(program, place):
     """The list of the tuples (name, sort or None) of the uses of free names in what stands at a place."""
     uses = free_uses(place, found_at(program, place), ())
-    finder = found(resolved(program))[0]
+    finder = found(whole_of(program))[0]
     types = types_found(program, finder, [at for at, _ in uses])
     return [(use[1], None if "." in use[1] else sort_named(told)) for use, told in zip(uses, types)]
 

@@ -5,7 +5,7 @@ new one; the pairs (old binder, new binder) are of binders that have become othe
 """
 
 from changedsame.senses import senses
-from changedsame.wholes import resolved
+from changedsame.wholes import whole_of
 
 
 def moved_binder(meaning, origin):
@@ -24,7 +24,7 @@ def moved_binder(meaning, origin):
 def wanted_meanings(program, origins):
     """A dict from new places to what stands there ought to mean."""
     wanted = {}
-    told = senses(program, resolved(program))
+    told = senses(program, whole_of(program))
     for origin in origins:
         old, new, _ = origin
         for place, kind, meaning in told:
@@ -37,7 +37,7 @@ def wanted_meanings(program, origins):
 def clash_behind(program, origins, result):
     """The first place of a resolved result where what comes from origins means otherwise, as a reason; None if none."""
     wanted = wanted_meanings(program, origins)
-    for place, _, meaning in senses(result, resolved(result)):
+    for place, _, meaning in senses(result, whole_of(result)):
         if place in wanted and wanted[place] != meaning:
             return ("clash", place, wanted[place], meaning)
     return None

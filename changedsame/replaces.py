@@ -13,7 +13,7 @@ from changedsame.places import check_place, put_within
 from changedsame.spots import children, found_at, inner_at, is_counts
 from changedsame.surroundings import is_parting, parting
 from changedsame.trees import is_expr, is_program
-from changedsame.wholes import resolved
+from changedsame.wholes import whole_of
 
 MOST_EXPRS = 4
 
@@ -57,7 +57,7 @@ def decided_straight(program, change):
         return ("refused", told)
     part = found_at(program, change[1])
     result = put_within(program, change[1], told[1])
-    position = first_clash(resolved(result))
+    position = first_clash(whole_of(result))
     if position is not None:
         return ("refused", ("untyped", position))
     if is_taken_at_once(program, change, part, told[1]):

@@ -7,7 +7,7 @@ from changedsame.binding import scopes
 from changedsame.labels import plain_member, without_labels
 from changedsame.nodes import pattern_names
 from changedsame.spots import decl_exprs, decls_of
-from changedsame.wholes import resolved
+from changedsame.wholes import whole_of
 
 
 def names_bound(expr):
@@ -55,7 +55,7 @@ def whole_decls(program, whole):
 
 def sights(program):
     """The list of the sights of a program, places rising; raises its first fault."""
-    return sights_of(program, resolved(program))
+    return sights_of(program, whole_of(program))
 
 
 def sights_of(program, whole):

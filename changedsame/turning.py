@@ -4,12 +4,12 @@ from changedsame.finding import is_value
 from changedsame.senses import occurrences
 from changedsame.spots import all_exprs, children, decl_exprs, decls_of, with_children, with_decl
 from changedsame.spots import with_decl_exprs
-from changedsame.wholes import resolved
+from changedsame.wholes import whole_of
 
 
 def uses_of_con(program, con):
     """A dict of the tuples (place, position there) of the uses of a constructor, in makings and patterns."""
-    return {told[:2]: True for told in occurrences(program, resolved(program)) if told[2] == "con" and told[4] == con}
+    return {told[:2]: True for told in occurrences(program, whole_of(program)) if told[2] == "con" and told[4] == con}
 
 
 def parts_of_con(program, con):

@@ -3,7 +3,7 @@
 from changedsame.errors import NotBound, NotShown, Twice, WrongArgument
 from changedsame.senses import senses
 from changedsame.wholedecls import read_book
-from changedsame.wholes import resolved
+from changedsame.wholes import whole_of
 
 
 def fault_of(program):
@@ -23,7 +23,7 @@ def fault_of(program):
 
 def clash_of(wanted, program):
     """The first place at which the senses of a resolved program are not those that are wanted, as a reason, or None."""
-    for sense, told in zip(wanted, senses(program, resolved(program))):
+    for sense, told in zip(wanted, senses(program, whole_of(program))):
         if sense != told:
             return ("clash", told[0], sense[2], told[2])
     return None

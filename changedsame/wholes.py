@@ -42,6 +42,11 @@ def resolved(program):
     """The Whole of a program; raises its first fault."""
     if not is_program(program):
         raise InvalidProgram(program)
+    return whole_of(program)
+
+
+def whole_of(program):
+    """The same of what is known to be a program."""
     return Whole(read_book(program))
 
 
