@@ -116,9 +116,11 @@ class TestDeeds(unittest.TestCase):
         self.assertEqual(desk.do("text p"), "module M=let y = 1 do tell(y + y)do(let a=2 in a)end")
         for k in range(12):
             desk.do(f"do like rename-value M.{'xy'[k % 2]} {'yx'[k % 2]}")
-        self.assertEqual(desk.do("merge big like like"), "-")
+        desk.do(f"begin empty {TEXT}")
+        self.assertEqual(desk.do("merge big like empty"), "-")
+        self.assertEqual(desk.do("changes big"), desk.do("changes like"))
         desk.do("do like rename-value M.x y")
-        error = error_of(desk.do, "merge bigger w like")
+        error = error_of(desk.do, "merge bigger empty like")
         self.assertEqual((type(error), len(error.value)), (InvalidChanges, 13))
 
     def test_copy_and_drop(self):
