@@ -1,7 +1,7 @@
 """Changes of the rules of a match or a try: their forms, and the rules behind them."""
 
 from changedsame.basics import is_count, is_long_big, word_of
-from changedsame.decisions import is_path
+from changedsame.decisions import is_path, value_at
 from changedsame.errors import InvalidPath, InvalidPlace, InvalidRule, TooMany
 from changedsame.nodes import pattern_names
 from changedsame.spots import found_at, is_counts, with_expr_at
@@ -32,23 +32,10 @@ def check_fits(program, change):
     if k >= many or (word in ("swap rules", "merge rules") and k + 1 == many) or (word == "drop rule" and many == 1):
         raise InvalidRule(k)
     if word == "split rule":
-        if pattern_at(expr[2][k][0], change[3]) != ("any",):
+        if value_at(expr[2][k][0], change[3]) != ("any",):
             raise InvalidPath(change[3])
         if many == MOST_RULES:
             raise TooMany("rules", MOST_RULES)
-
-
-def pattern_at(pattern, path):
-    """The pattern to which a path leads from a pattern, None if it leads to none."""
-    node = pattern
-    for step in path:
-        if node[0] == "tuple" and is_count(step) and step < len(node[1]):
-            node = node[1][step]
-        elif node[0] == "con" and node[1] == step and node[2] is not None:
-            node = node[2]
-        else:
-            return None
-    return node
 
 
 def with_pattern_at(pattern, path, part):

@@ -83,7 +83,7 @@ def next_tree(test, value):
 
 
 def value_at(value, path):
-    """The part of a value at a place, None if the place does not lead to one."""
+    """The part of a value, or of a pattern, at a place, None if the place does not lead to one."""
     node = value
     for step in path:
         if node[0] == "tuple" and is_count(step) and step < len(node[1]):

@@ -1,25 +1,16 @@
 """Functions that are unfolded, folded, or take their two parameters the other way round."""
 
 from changedsame.basics import is_short_name, word_of
-from changedsame.errors import InvalidChange, InvalidPlace, InvalidProgram, InvalidUse, NotAccepted
+from changedsame.errors import InvalidChange, InvalidPlace, InvalidUse
 from changedsame.flips import flip_fault, flipped, is_flip
 from changedsame.folds import first_uses, folded, unfolded, unfolded_function
 from changedsame.givens import as_seen, function_of, meaning_at
-from changedsame.infer import first_clash, is_accepted
+from changedsame.infer import check_accepted, first_clash
 from changedsame.origins import clash_behind
 from changedsame.places import check_size
 from changedsame.spots import found_at, with_expr_at
-from changedsame.trees import is_program
 from changedsame.verdicts import fault_of
 from changedsame.wholes import whole_of
-
-
-def check_accepted(program):
-    """Raises the error of what is no program, or none that is accepted."""
-    if not is_program(program):
-        raise InvalidProgram(program)
-    if not is_accepted(program):
-        raise NotAccepted()
 
 
 def is_function_change(program, value):

@@ -1,6 +1,6 @@
 """The types of a program's values, and whether it is accepted."""
 
-from changedsame.errors import Clash, InvalidWhole, MissingError, Twice, WrongArgument
+from changedsame.errors import Clash, InvalidProgram, InvalidWhole, MissingError, NotAccepted, Twice, WrongArgument
 from changedsame.finding import Finder, Unlike, find, is_value, member_entries
 from changedsame.trees import is_program
 from changedsame.wholes import Whole, resolved_expr, whole_of
@@ -32,6 +32,14 @@ def is_accepted(program):
     except (MissingError, Twice, WrongArgument):
         return False
     return first_clash(whole) is None
+
+
+def check_accepted(program):
+    """Raises the error of what is no program, or none that is accepted."""
+    if not is_program(program):
+        raise InvalidProgram(program)
+    if not is_accepted(program):
+        raise NotAccepted()
 
 
 def scheme_of(whole, expr):

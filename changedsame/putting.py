@@ -1,6 +1,6 @@
 """Still expressions put for names, so that no binding catches a name."""
 
-from changedsame.binding import KEPT_SIGNS, changed, changed_pattern, free_in
+from changedsame.binding import changed, changed_pattern, free_in, fresh_name
 from changedsame.nodes import pattern_names
 from changedsame.spots import children, with_children
 
@@ -38,20 +38,8 @@ def own_below(bound, body, others, name, caught):
     """A bound name and its expression, the name being another one if it would catch a name of the value."""
     if bound == name or bound not in caught or name not in free_in(body):
         return (bound, body)
-    told = free_name(bound, name, [body], caught, others)
+    told = fresh_name(name, bound, [body], list(others) + list(caught))
     return (told, changed(body, bound, told))
-
-
-def free_name(bound, name, exprs, caught, others):
-    """The first name made of a bound one that is free nowhere, none of the others, and not the name that goes."""
-    used = {other: True for other in list(others) + list(caught) + [name]}
-    for expr in exprs:
-        used.update(free_in(expr))
-    start = bound[:KEPT_SIGNS]
-    k = 0
-    while f"{start}{k}" in used:
-        k += 1
-    return f"{start}{k}"
 
 
 def put_in_rule(rule, name, value, caught):
@@ -83,7 +71,8 @@ def own_member(members, rest, k, name, caught):
     reaching = [body for _, parameter, body in members if parameter != name] + [rest]
     if old not in caught or not [part for part in reaching if name in free_in(part)]:
         return (members, rest)
-    new = free_name(old, name, [member[2] for member in members] + [rest], caught, [member[0] for member in members])
+    bodies = [member[2] for member in members]
+    new = fresh_name(name, old, bodies + [rest], [member[0] for member in members] + list(caught))
     names = [new if member[0] == old else member[0] for member in members]
     told = []
     for own, member in zip(names, members):
@@ -96,6 +85,6 @@ def renamed_below(parameter, body, names, old, new):
     if parameter == old:
         return (parameter, body)
     if parameter == new and old in free_in(body):
-        told = free_name(new, old, [body], {new: True}, names)
+        told = fresh_name(old, new, [body], names)
         return (told, changed(changed(body, new, told), old, new))
     return (parameter, changed(body, old, new))

@@ -3,20 +3,12 @@
 from changedsame.basics import is_count
 from changedsame.changeforms import is_change_form
 from changedsame.deciding import decided
-from changedsame.errors import InvalidChange, InvalidChanges, InvalidMany, InvalidProgram, NotAccepted, NothingToRedo
-from changedsame.errors import NothingToUndo, TooMany
-from changedsame.infer import is_accepted
+from changedsame.errors import InvalidChange, InvalidChanges, InvalidMany, InvalidProgram, NothingToRedo, NothingToUndo
+from changedsame.errors import TooMany
+from changedsame.infer import check_accepted
 from changedsame.trees import is_program
 
 MOST_CHANGES = 100
-
-
-def check_accepted(program):
-    """Raises the error of what is no program, or none that is accepted."""
-    if not is_program(program):
-        raise InvalidProgram(program)
-    if not is_accepted(program):
-        raise NotAccepted()
 
 
 class Work:

@@ -42,6 +42,10 @@ class TestGiven(unittest.TestCase):
             found = keeps(self, given_function, program, place)
             self.assertEqual(found, told and (told[0], parse_expr(told[1])), place)
 
+    def test_of_modules_with_like_names(self):
+        program = parse("module A = let f = fn x -> 1 rec g y = 2 end module B = let g = fn z -> 3 rec f w = 4 do (f 1, g 1, A.f 1, A.g 1) end")
+        self.assertEqual([given_function(program, (1, 2, k, 0)) for k in range(4)], [("w", ("int", 4)), ("z", ("int", 3)), ("x", ("int", 1)), ("y", ("int", 2))])
+
     def test_of_the_same_module_as_it_stands(self):
         program = parse("module M = let a = 1 let f = fn x -> (a, Nil, x) do fn a -> f a end")
         self.assertEqual(given_function(program, (0, 2, 0, 0)), ("x", parse_expr("(a, Nil, x)")))
@@ -237,6 +241,9 @@ class TestChanges(unittest.TestCase):
                 ("module M = let f = fn x -> fn x -> x do f end", "f", ("module M = let f = fn x -> fn x -> x do f end", ("fault", "twice", "x"))),
                 ("module M = rec f x = fn y -> f do f 1 end".replace("-> f do", "-> f x y do"), "f", ("module M = rec f y = fn x -> f y x do f 1 end", ("use", (0, 1, 0)))),
                 (f"module M = {sub} do let v = f 1 2 in f (v + 1) (v + 2) end", "f", f"module M = {turned} do let v = f 2 1 in let v0 = v + 1 in f (v + 2) v0 end"),
+                (f"module M = {sub} do match f 1 with q -> 2 end end", "f", (f"module M = {turned} do match f 1 with q -> 2 end end", ("use", (0, 1, 0, 0)))), (f"module M = {sub} do Some (f 1) end", "f", (f"module M = {turned} do Some (f 1) end", ("use", (0, 1, 0, 0)))),
+                (f"module M = {sub} do (match f with g -> g end) 1 end", "f", (f"module M = {turned} do (match f with g -> g end) 1 end", ("use", (0, 1, 0, 0)))), (f"module M = {sub} do (f; 1) + 2 end", "f", (f"module M = {turned} do (f; 1) + 2 end", ("use", (0, 1, 0, 0)))),
+                (f"module M = {sub} let g = f do g 1 2 end", "f", (f"module M = {turned} let g = f do g 1 2 end", ("use", (0, 1)))),
                 (f"module M = {sub} do fn f -> f 1 2 end", "f", f"module M = {turned} do fn f -> f 1 2 end")]:
             self.look(text, ("flip", name if "." in name else f"M.{name}"), wanted)
 

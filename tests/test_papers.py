@@ -91,14 +91,14 @@ class TestPut(unittest.TestCase):
                 ("match 1 with (a, a0) -> (a, a0, x) end", "x", "a", "match 1 with (a1, a0) -> (a1, a0, a) end"),
                 ("try x with Some y -> x | y -> y end", "x", "y", "try y with Some y0 -> y | y -> y end"),
                 ("rec y p = y p in x", "x", "y", "rec y0 p = y0 p in y"), ("rec y x = (y, x) in y", "x", "y", "rec y x = (y, x) in y"),
-                ("rec y p = x in 1", "x", "y", "rec y0 p = y in 1"), ("rec y x = x in x", "x", "y", "rec y0 x = x in y"),
+                ("rec y p = x in 1", "x", "y", "rec y0 p = y in 1"), ("rec y x = x and z q = 1 in y", "x", "y", "rec y x = x and z q = 1 in y"), ("rec y x = x and z q = 1 in x", "x", "y", "rec y0 x = x and z q = 1 in y"), ("rec y x = x in x", "x", "y", "rec y0 x = x in y"),
                 ("rec y p = (p, x) in y", "x", "p", "rec y p0 = (p0, p) in y"), ("rec x p = x in x", "x", "p", "rec x p = x in x"),
                 ("rec f p = (p, x) and p q = f in p", "x", "p", "rec f p1 = (p1, p) and p0 q = f in p0"),
                 ("rec f y = x and y0 q = 1 in 1", "x", "y", "rec f y1 = y and y0 q = 1 in 1"),
                 ("rec f p = x in f", "x", "(f, p, f0)", "rec f1 p0 = (f, p, f0) in f1"), ("rec f f0 = (f, f0) in x", "x", "f", "rec f1 f0 = (f1, f0) in f"), ("rec f f0 = f in x", "x", "f", "rec f0 f00 = f0 in f"), ("rec f f0 = 1 in x", "x", "f", "rec f0 f0 = 1 in f"),
                 ("rec f x = f and g p = x in 1", "x", "f", "rec f0 x = f0 and g p = f in 1"), ("rec f f = x in 1", "x", "f", "rec f0 f1 = f in 1"),
                 ("(x; fn M1 -> 1)".replace("M1", "m"), "x", "fn z -> (m, z)", "((fn z -> (m, z)); fn m -> 1)"), ("M.x + x", "x", "1", "M.x + 1"),
-                ("fn y -> x", "x", "M.y", "fn y -> M.y"), ("fn abcdefghijklmnopqrst -> x", "x", "abcdefghijklmnopqrst", "fn abcdefghijklmnop0 -> abcdefghijklmnopqrst"),
+                ("fn y -> x", "x", "M.y", "fn y -> M.y"), ("rec f x = x in x", "x", "Some x", "rec f x = x in Some x"), ("rec f x = f and f0 y = x in x", "x", "(x, f)", "rec f1 x = f1 and f0 y = (x, f) in (x, f)"), ("fn abcdefghijklmnopqrst -> x", "x", "abcdefghijklmnopqrst", "fn abcdefghijklmnop0 -> abcdefghijklmnopqrst"),
                 ("fn a -> let b = a in (x, b)", "x", "(a, b)", "fn a0 -> let b0 = a0 in ((a, b), b0)")]:
             self.look(*row)
 
@@ -187,13 +187,14 @@ class TestRules(unittest.TestCase):
                 ("let x = (let x = a in x) in c x", "let x = a in let x = x in c x", True), ("let x = (a; b) in c", "a; let x = b in c", True), ("(a; b); c", "a; (b; c)", True),
                 ("(let y = a in b); c", "let y = a in (b; c)", True), ("(let y = a in b); y", "let y = a in (b; y)", False), ("let x = (a; b) in c", "a; let y = b in c", False),
                 ("(a; b); c", "b; (a; c)", False), ("a; b", "a; b", False), ("let x = (let y = a in b) in c", "let y = a in let x = c in b", False), ("f (a; b)", "a; f b", False),
-                ("(a; b; c); d", "a; (b; c); d", True), ("let x = fn q -> (a; b) in c", "a; let x = b in c", False)]:
+                ("(a; b; c); d", "a; (b; c); d", True), ("let x = fn q -> (a; b) in c", "a; let x = b in c", False), ("(a; b) c", "a; b c", False),
+                ("if a then (b; c) else d", "b; if a then c else d", False), ("(let y = a in b) c", "let y = a in b c", False), ("let x = fn y -> b in c", "let y = b in let x = b in c", False)]:
             self.look("nested", one, other, is_so)
 
     def test_unused(self):
         for one, other, is_so in [
                 ("a; b", "let x = a in b", True), ("a; x", "let x = a in x", False), ("f 1; b", "let x = f 1 in b", True), ("a; b", "let x = b in a", False), ("a; b", "a; b", False),
-                ("a; fn x -> x", "let x = a in fn x -> x", True)]:
+                ("a; fn x -> x", "let x = a in fn x -> x", True), ("a; b", "if c then a else b", False), ("let y = a in b", "let x = a in b", False)]:
             self.look("unused", one, other, is_so)
 
     def test_rules_keep_to_themselves(self):
