@@ -23,7 +23,7 @@ class Desk:
 
     def names(self):
         """The sorted list of the names."""
-        return sorted(self.held)
+        return sorted(list(self.held))
 
     def __len__(self):
         return len(self.done)

@@ -193,8 +193,19 @@ class TestTold(unittest.TestCase):
                 ("C (m, true) -> m + n | C (k, _) -> n + k | _ -> 3", ("drop rule", 0), ["rows", "choices", "rows"]), ("C (m, true) -> m + n | C (k, _) -> k - n | _ -> 3", ("drop rule", 0), ("value", None, 0, 0)),
                 ("C (a, _) -> 2 * a | C (b, true) -> b + b | C (c, false) -> c + c + 0 | _ -> 3", ("drop rule", 0), ["rows", "rows", "choices", "rows", "rows"]),
                 ("C (a, _) -> 0 * a | C (_, true) -> 0 | C (c, false) -> c - c | _ -> 3", ("drop rule", 0), ("beyond", 0, 0)), ("C (a, _) -> 0 * a | C (b, true) -> 0 | C (c, false) -> c - c | _ -> 3", ("drop rule", 0), ["rows", "rows", "choices", "rows", "rows"]),
+                ("C (m, true) -> n - n | C (n, _) -> 0 | _ -> 3", ("swap rules", 0), ("beyond", 0, 0)), ("C (m, true) -> n | C (n, _) -> 7 | _ -> 3", ("swap rules", 0), ("beyond", 0, 0)),
+                ("C (n, true) -> 0 | C (m, _) -> n - n | _ -> 3", ("swap rules", 0), ("beyond", 0, 0)), ("C (1, true) -> 5 | C (n, _) -> n | _ -> 3", ("swap rules", 0), ("beyond", 0, 0)), ("C (n, true) -> n | C (1, _) -> 5 | _ -> 3", ("swap rules", 0), ("beyond", 0, 0)),
+                ("C (m, true) -> n + 0 | C (k, _) -> n | _ -> 3", ("swap rules", 0), ["rows", "choices", "rows"]),
                 ("A -> ask() | B 1 -> ask() + 0 | _ -> 2", ("merge rules", 0), ("value", None, 2, 0)), ("A -> raise NoMore | _ -> 1", ("drop rule", 0), ("beyond", 0, 0))]:
             self.look(rules, change, told, more=more)
+
+    def test_bodies_that_are_led_to_one_another(self):
+        for rules, change, told in [
+                ("(a, b) -> 0 | (c, 1) -> c - c | (_, d) -> d - d", ("drop rule", 0), ("beyond", 0, 0)), ("(a, b) -> 0 | (c, 1) -> c - c | (d, _) -> d - d", ("drop rule", 0), ["rows", "rows", "choices", "rows", "rows"]),
+                ("(a, b, 1) -> 0 | (c, d, 2) -> c - c | (_, e, _) -> e - e", ("merge rules", 0), ("beyond", 1, 0)), ("(a, b, 1) -> 0 | (c, d, 2) -> c - c | (e, _, _) -> e - e", ("merge rules", 0), ["rows", "rows", "choices", "rows"]),
+                ("(a, b, 1) -> 0 | (c, d, 2) -> c - c | (_, e, _) -> e", ("merge rules", 0), ("value", None, 2, 0)), ("(a, b) -> 0 | (c, 1) -> c - c | (_, d) -> d", ("drop rule", 0), ("value", None, 0, 1)),
+                ("(a, b) -> 0 | (c, 1) -> c - c | (_, d) -> 0", ("drop rule", 0), ["rows", "choices", "rows"])]:
+            self.look(rules, change, told)
 
     def test_names_exchanged(self):
         self.look("C (a, b) -> (tell(a); a) | C (b, a) -> (tell(b); b + 0) | _ -> 3", ("swap rules", 0), ["rows", "choices", "rows"])

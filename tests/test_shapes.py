@@ -77,6 +77,16 @@ class TestTold(unittest.TestCase):
             "C (1, true, C (2, false, fn z -> C (3, true, z)))", "C (C (fn z -> C (z, true, 3), false, 2), true, 1)"), 0)
         self.look(both, ("turn shape", "A.C", (0, 1, 2)), both, 0)
 
+    def test_makings_within_still_parts(self):
+        text = "module M = type t = C of {} | D do C ({}) do match D with C ({}) -> 1 | D -> 2 end end"
+        self.look(text.format("(int -> t) * int", "fn u -> C (fn w -> D, ask()), ask()", "_, a"), ("turn shape", "M.C", (1, 0)),
+                  text.format("int * (int -> t)", "M1", "a, _").replace("C (M1)", "let q0 = ask() in C (q0, fn u -> let q1 = ask() in C (q1, fn w -> D))"), 2)
+        three = "module M = type t = C of {} | D do C ({}) end"
+        self.look(three.format("int * (int -> t) * int", "ask(), fn u -> C (ask(), fn w -> D, u / 1), ask()"), ("turn shape", "M.C", (2, 1, 0)),
+                  three.format("int * (int -> t) * int", "M1").replace("C (M1)", "let q0 = ask() in let q1 = ask() in C (q1, fn u -> let q2 = ask() in let q3 = u / 1 in C (q3, fn w -> D, q2), q0)"), 4)
+        self.look(three.format("int * t", "ask(), C (1, C (ask(), D))"), ("turn shape", "M.C", (1, 0)),
+                  three.format("t * int", "M1").replace("C (M1)", "let q0 = ask() in let q1 = (let q2 = (let q3 = ask() in C (D, q3)) in C (q2, 1)) in C (q1, q0)"), 4)
+
     def test_constructors_of_like_names(self):
         text = "module A = type t = C of int * bool do C (1, true) end module B = type u = C of int * bool do (C (1, true), A.C (2, false)) do fn x -> match x with (C (1, a), A.C (2, b)) -> (a, b) | _ -> (true, true) end end"
         self.look(text, ("turn shape", "A.C", (1, 0)), text.replace("t = C of int * bool do C (1, true)", "t = C of bool * int do C (true, 1)").replace("A.C (2, false)", "A.C (false, 2)").replace("A.C (2, b)", "A.C (b, 2)"), 0)
