@@ -3,7 +3,7 @@
 from changedsame.basics import is_count
 from changedsame.builds import build_of, middle
 from changedsame.changeforms import CHANGE_PARTS, is_change_form
-from changedsame.deciding import decided, taken
+from changedsame.deciding import end_of
 from changedsame.errors import InvalidChange, InvalidProgram, NotAccepted
 from changedsame.infer import is_accepted
 from changedsame.moves import Move
@@ -35,8 +35,8 @@ def middle_of(program, other):
 def led(program, change, other):
     """The change that a change becomes behind another one of the same program; None if it is not led."""
     check_two(program, change, other)
-    result = taken(program, other)
-    return None if result is None or taken(program, change) is None else led_over(program, change, other, result)
+    result = end_of(program, other)
+    return None if result is None or end_of(program, change) is None else led_over(program, change, other, result)
 
 
 def check_two(program, change, other):
@@ -126,5 +126,5 @@ class Way:
         told = with_expr_at(self.ahead, place, expr)
         if at is None or not is_accepted(told):
             return None
-        result = decided(told, self.change)
-        return found_at(result[1], at) if result[0] == "taken" else None
+        result = end_of(told, self.change)
+        return None if result is None else found_at(result, at)

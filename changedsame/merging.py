@@ -1,6 +1,6 @@
 """Changes that commute, and two rows of changes that are merged."""
 
-from changedsame.deciding import taken
+from changedsame.deciding import end_of
 from changedsame.errors import InvalidChanges, InvalidProgram
 from changedsame.infer import is_accepted
 from changedsame.leading import check_two, led_over
@@ -17,16 +17,16 @@ def commute(program, change, other):
 
 
 def commuted(program, change, other):
-    """The tuple of both changes, each led over the other one, if they commute, else None."""
-    near, far = taken(program, change), taken(program, other)
+    """The tuple (both changes, each led over the other one, the program behind the first), None if they do not."""
+    near, far = end_of(program, change), end_of(program, other)
     if near is None or far is None:
         return None
     led_change = led_over(program, change, other, far)
     led_other = led_over(program, other, change, near)
     if led_change is None or led_other is None:
         return None
-    result = taken(far, led_change)
-    return (led_change, led_other) if result is not None and result == taken(near, led_other) else None
+    result = end_of(far, led_change)
+    return (led_change, led_other, near) if result is not None and result == end_of(near, led_other) else None
 
 
 def merged(program, changes, others):
@@ -62,6 +62,6 @@ def row_over(program, changes, other):
         told = commuted(program, change, other)
         if told is None:
             return ("apart", position)
-        row.append(told[0])
-        program, other = taken(program, change), told[1]
+        led_change, other, program = told
+        row.append(led_change)
     return ("led", row, other)

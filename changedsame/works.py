@@ -2,7 +2,7 @@
 
 from changedsame.basics import is_count
 from changedsame.changeforms import is_change_form
-from changedsame.deciding import decided
+from changedsame.deciding import outcome
 from changedsame.errors import InvalidChange, InvalidChanges, InvalidMany, InvalidProgram, NothingToRedo, NothingToUndo
 from changedsame.errors import TooMany
 from changedsame.infer import check_accepted
@@ -24,7 +24,7 @@ class Work:
         """Changes the work, if the change is taken of the newest program: it stands last in the row."""
         if not is_change_form(change):
             raise InvalidChange(change)
-        told = decided(self.newest(), change)
+        told = outcome(self.newest(), change)
         if told[0] == "taken":
             if len(self.row) == MOST_CHANGES:
                 raise TooMany("changes", MOST_CHANGES)
