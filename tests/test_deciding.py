@@ -9,6 +9,7 @@ from running import parting_run
 from test_replaces import BIG
 from typed import Typed
 
+from changedsame.bindings import type_at
 from changedsame.cases import told_case
 from changedsame.checker import checked, is_paper
 from changedsame.deciding import decided, is_change, is_taken, taken
@@ -17,6 +18,7 @@ from changedsame.functions import decided_function
 from changedsame.infer import is_accepted
 from changedsame.moves import decided_move
 from changedsame.parser import parse, parse_expr
+from changedsame.places import expr_at, places, put_at
 from changedsame.plainruns import run_outer
 from changedsame.printer import program_text
 from changedsame.renames import decided_rename
@@ -199,6 +201,45 @@ class TestRandom(unittest.TestCase):
                 seen[key] = seen.get(key, 0) + 1
         for word in ("inline", "drop", "fold", "unfold", "extract", "share", "move", "rename value", "rename local", "swap rules", "drop rule", "merge rules", "turn shape", "rename module"):
             self.assertGreater(seen.get((word, "taken"), 0), 0, word)
+
+
+FLIPPED = [
+    ("let", "flp", parse_expr("fn x -> fn y -> x - y")), ("let", "flp", parse_expr("fn x -> fn y -> tell(y); x + ask()")),
+    ("rec", (("flp", "x", parse_expr("fn y -> if x < 1 then y else flp (x / 2) (y + 1)")),)), ("rec", (("flp", "x", parse_expr("fn y -> if x < 1 then y - x else flp (x - y) y")),)),
+]
+
+
+class TestFlips(unittest.TestCase):
+    def with_uses(self, program, rand):
+        """The program with some of its numbers as arguments of a function of two, which it gets."""
+        title, shows, decls = program[0][1:]
+        told = (("module", title, None if shows is None else shows + ("flp",), (rand.choice(FLIPPED),) + decls),) + program[1:]
+        for _ in range(12):
+            place = rand.choice(places(told))
+            if place[:2] == (0, 0) or type_at(told, place) != ("int",):
+                continue
+            part = expr_at(told, place)
+            args = [part, rand.choice([("int", 3), ("prim", "ask", ()), part, ("prim", "add", (part, ("int", 1)))])]
+            rand.shuffle(args)
+            use = ("call", ("call", ("var", "flp" if place[0] == 0 else "M.flp"), args[0]), args[1])
+            if error_of(put_at, told, place, use) is None and is_accepted(put_at(told, place, use)):
+                told = put_at(told, place, use)
+        return told
+
+    def test_random(self):
+        seen = {}
+        for seed in range(60):
+            rand = random.Random(seed)
+            program = Typed(seed).program(2, rand.choice([1, 2]), 3)
+            if not is_accepted(program) or len(program[0][3]) == 20:
+                continue
+            program = self.with_uses(program, rand)
+            told = decided(program, ("flip", "M.flp"))
+            self.assertEqual(told[:2], decided_function(program, ("flip", "M.flp")))
+            self.assertEqual(checked(program, told[2]), told[1])
+            self.assertIsNone(parting_run(program, told[1], rand))
+            seen[len(told[2])] = seen.get(len(told[2]), 0) + 1
+        self.assertGreater(min(seen.get(many, 0) for many in (1, 5)), 3, seen)
 
 
 if __name__ == "__main__":
