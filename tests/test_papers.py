@@ -75,6 +75,13 @@ def put_plainly(node, name, value):
     return node
 
 
+def padded(many):
+    """A still expression of so many parts."""
+    if many <= 2:
+        return ("unit",) if many == 1 else ("con", "Some", ("unit",))
+    return ("tuple", (padded((many - 1) // 2), padded(many - 1 - (many - 1) // 2)))
+
+
 class TestPut(unittest.TestCase):
     def look(self, text, name, value, wanted):
         told = keeps(self, put_for, parse_expr(text), name, parse_expr(value))
@@ -158,10 +165,18 @@ class TestRules(unittest.TestCase):
         few = ("tuple", (("var", "x"),) * 4)
         self.assertIs(are_related("value", ("let", "x", big, few), ("tuple", (big,) * 4)), True)
 
+    def test_value_of_six_hundred_parts(self):
+        for many, is_so in ((149, True), (150, False)):
+            value, pad, x = padded(150), padded(many), ("var", "x")
+            let = ("let", "x", value, ("tuple", (x, x, x, pad)))
+            other = ("tuple", (value, value, value, pad))
+            self.assertIs(is_expr(other), is_so)
+            self.assertIs(are_related("value", let, other if is_so else pad), is_so)
+
     def test_call(self):
         for one, other, is_so in [
                 ("(fn x -> x + 1) (f 2)", "let x = f 2 in x + 1", True), ("(fn x -> x) 2", "let y = 2 in y", False), ("f 2", "let x = 2 in f x", False), ("(fn x -> x) 2", "let x = 3 in x", False),
-                ("(fn x -> x) 2", "let x = 2 in 2", False)]:
+                ("(fn x -> x) 2", "let x = 2 in 2", False), ("(fn x -> x); f 2", "let x = f 2 in x", False), ("()", "let x = 2 in x", False)]:
             self.look("call", one, other, is_so)
 
     def test_named(self):
