@@ -8,11 +8,13 @@ from changedsame.covers import board_of
 from changedsame.errors import InvalidChange, InvalidPatterns, InvalidProgram, NotAccepted
 from changedsame.infer import is_accepted
 from changedsame.matches import are_patterns
+from changedsame.newparts import UNIT, alone_at
 from changedsame.places import check_place, check_size
 from changedsame.plaintrees import shape_of
 from changedsame.sights import sights
 from changedsame.spots import found_at, with_expr_at
 from changedsame.trees import is_expr, is_program
+from changedsame.verdicts import fault_of
 from changedsame.wholes import whole_of
 
 
@@ -158,12 +160,20 @@ def went(whole, patterns, others):
 
 
 def like_choices(program, place, match, other):
-    """Whether any two values are matches, or tries, of one expression that may stand there, with like choices."""
+    """Whether any two values are matches, or tries, of one expression, that have like choices at a place."""
     check_place(program, place)
     if not is_expr(match) or not is_expr(other) or match[0] not in ("match", "try") or other[:2] != match[:2]:
         return False
-    near, far = with_expr_at(program, place, match), with_expr_at(program, place, other)
-    if not is_accepted(near) or not is_accepted(far):
+    near, far = patterns_there(program, place, match[2]), patterns_there(program, place, other[2])
+    if near is None or far is None:
         return False
-    told = ways_through(whole_of(near).cons(), whole_patterns(near, place), whole_patterns(far, place))
+    makers, patterns = near
+    told = ways_through(makers, patterns, far[1])
     return told is not None and all([are_like_ways(way, match[2], other[2]) for way in first_ways(told[1])])
+
+
+def patterns_there(program, place, rules):
+    """The tuple (constructors, patterns with whole names) of rules at a place; None if a name is not seen there."""
+    bare = ("match", UNIT, tuple([(pattern, UNIT) for pattern, _ in rules]))
+    alone = alone_at(program, place, bare)
+    return None if fault_of(alone) is not None else (whole_of(alone).cons(), whole_patterns(alone, place))

@@ -282,7 +282,7 @@ class TestLikeChoices(unittest.TestCase):
         one, other = parse_expr(near), parse_expr(far)
         for pair in ((one, other), (other, one)):
             self.assertIs(keeps(self, like_choices, program, place, *pair), is_so, (near, far))
-        self.assertIs(like_choices(program, place, one, one), one[0] in ("match", "try") and is_accepted(put_at(program, place, one)))
+        self.assertIs(like_choices(program, place, one, one), one[0] in ("match", "try") and not [word for word in ("Q", "true ->", "M.A") if word in near])
 
     def test_some(self):
         for near, far, is_so in [
@@ -292,7 +292,9 @@ class TestLikeChoices(unittest.TestCase):
                 ("match x with A -> 1 end", "match A with A -> 1 end", False), ("match x with A -> 1 end", "try x with r -> x end", False), ("try 1 with r -> raise r end", "try 1 with q -> raise q end", True),
                 ("try 1 with NoMore -> 1 | _ -> 2 end", "try 1 with _ -> 2 end", False), ("match x with C (a, b) -> (a, b) | _ -> (1, true) end", "match x with C (b, a) -> (b, a) | _ -> (1, true) end", True),
                 ("match x with C (a, b) -> fn q -> a | _ -> fn q -> q end", "match x with C (a, _) -> fn a1 -> a | _ -> fn z -> z end", True), ("match x with A -> fn n -> n | _ -> fn q -> n end", "match x with A -> fn n -> n | _ -> fn n -> n end", False),
-                ("x", "x", False), ("match x with A -> 1 | _ -> 2 end", "x", False), ("match x with A -> 1 | _ -> true end", "match x with A -> 1 | _ -> true end", False), ("match x with Q -> 1 end", "match x with Q -> 1 end", False),
+                ("x", "x", False), ("match x with A -> 1 | _ -> 2 end", "x", False), ("match x with A -> 1 | _ -> true end", "match x with _ -> true end", False), ("match x with Q -> 1 end", "match x with Q -> 1 end", False),
+                ("match x with A -> 1 | _ -> true end", "match x with B _ -> true | A -> 1 | _ -> true end", True), ("match zz with A -> yy | _ -> 2 end", "match zz with B _ -> 2 | A -> yy | _ -> 2 end", True), 
+                ("match x with 1 -> 1 | true -> 2 end", "match x with _ -> 2 end", False), ("match x with M.A -> 1 | _ -> 2 end", "match x with _ -> 2 end", False),
                 ("match raise NoMore with 1 -> 1 | _ -> 1 end", "match raise NoMore with true -> 1 | _ -> 1 end", False), ("match (1; x) with y -> y end", "match (1; x) with z -> z end", True), ("match x with y -> y end", "match x with y -> x end", False)]:
             self.look(near, far, is_so)
 
@@ -304,7 +306,11 @@ class TestLikeChoices(unittest.TestCase):
         for value in ODD:
             self.assertIs(like_choices(program, (0, 1), match, value), False)
             self.assertIs(like_choices(program, (0, 1), value, match), False)
-        self.assertIs(like_choices(parse("module M = let x = 1 do x do z end"), (0, 1), match, match), False)
+        self.assertIs(like_choices(parse("module M = let x = 1 do x do z end"), (0, 1), match, match), True)
+        self.assertIs(like_choices(parse("module M = let x = 1 + true do x end"), (0, 1), match, match), True)
+        self.assertIs(like_choices(parse("module M = let x = 1 do x type t = A of u end"), (0, 1), match, match), False)
+        late = parse("module M = let x = 1 do x type t = A end")
+        self.assertIs(like_choices(late, (0, 1), parse_expr("match x with A -> 1 end"), parse_expr("match x with A -> 1 end")), False)
 
 
 class TestRandom(unittest.TestCase):
