@@ -1,8 +1,8 @@
 """Changes of the rules of a match or a try: told, and taken or refused."""
 
 from changedsame.binding import free_in
-from changedsame.bodies import Pair, can_write, written_with
-from changedsame.caserules import changed_program, check_fits, is_change_by_form, origin_of
+from changedsame.caserules import changed_program, check_fits, is_change_by_form
+from changedsame.casework import Case, whole_patterns
 from changedsame.choosing import are_like_ways, bound_places, first_ways, ways_through
 from changedsame.covers import board_of
 from changedsame.errors import InvalidChange, InvalidPatterns, InvalidProgram, NotAccepted
@@ -10,9 +10,7 @@ from changedsame.infer import is_accepted
 from changedsame.matches import are_patterns
 from changedsame.newparts import UNIT, alone_at
 from changedsame.places import check_place, check_size
-from changedsame.plaintrees import shape_of
-from changedsame.sights import sights
-from changedsame.spots import found_at, with_expr_at
+from changedsame.spots import found_at
 from changedsame.trees import is_expr, is_program
 from changedsame.verdicts import fault_of
 from changedsame.wholes import whole_of
@@ -49,7 +47,10 @@ def told_case(program, change):
         return ("refused", ("clash", change[1]))
     case = Case(program, change, result)
     reason = case.first_reason()
-    return ("refused", reason) if reason is not None else ("taken", result, case.paper())
+    if reason is not None:
+        return ("refused", reason)
+    steps = case.paper()
+    return ("taken", result, steps) if steps is not None else ("refused", case.beyond(case.unlike[0]))
 
 
 def loses_names(program, change, result):
@@ -59,91 +60,6 @@ def loses_names(program, change, result):
     old, new = found_at(program, change[1])[2][change[2]], found_at(result, change[1])[2][change[2]]
     bound = bound_places(new[0])
     return bool([name for name in bound_places(old[0]) if name in free_in(old[1]) and name not in bound])
-
-
-def whole_patterns(program, place):
-    """The list of the patterns with whole names of the match or try at a place of a resolved program."""
-    told = [expr for at, expr, _ in sights(program) if at == place][0]
-    return [rule[0] for rule in told[2]]
-
-
-class Case:
-    """A change of rules with an accepted plain result, and the ways that values go ahead of it and behind it."""
-
-    def __init__(self, program, change, result):
-        place = change[1]
-        self.base = program
-        self.change = change
-        self.result = result
-        self.rules, self.others = found_at(program, place)[2], found_at(result, place)[2]
-        makers = whole_of(program).cons()
-        self.board, ways = ways_through(makers, whole_patterns(program, place), whole_patterns(result, place))
-        self.unlike = [way for way in first_ways(ways) if not are_like_ways(way, self.rules, self.others)]
-        self.pairs = [self.pair_of(way) for way in self.unlike]
-
-    def pair_of(self, way):
-        """The Pair of the rules to which a way leads, None if one of both is none."""
-        _, k, other = way
-        if k is None or other is None:
-            return None
-        place = self.change[1]
-        near, far = self.rules[k], self.others[other]
-        return Pair(self.base, place + (k + 1,), near, self.result, place + (other + 1,), far)
-
-    def first_reason(self):
-        """The reason of the first way that leads to rules that are not told to be alike; None without one."""
-        told = [None if pair is None or not pair.is_straight() else pair.are_alike() for pair in self.pairs]
-        together = [way for way, is_alike in zip(self.unlike, told) if is_alike]
-        for at, way in enumerate(self.unlike):
-            known, k, other = way
-            if told[at] is False:
-                surroundings = self.pairs[at].surroundings()
-                return ("value", shape_of(self.board, known), k, other, surroundings)
-            if told[at] is None or not self.can_all_be_written(group_of(way, together)):
-                return ("beyond", self.change[1], k, other)
-        return None
-
-    def can_all_be_written(self, group):
-        """Whether each body of some ways can be written with the names of each of their rules."""
-        rules = [self.rules[way[1]] for way in group] + [self.others[way[2]] for way in group]
-        return all([can_write(rule, other) for rule in rules for other in rules])
-
-    def paper(self):
-        """The list of the steps of a change that is taken; raises what makes a program on the way too large."""
-        _, place, k = self.change[:3]
-        origins = [origin_of(self.change, other) for other in range(len(self.others))]
-        anew = {}
-        for _, near, far in self.unlike:
-            anew[origins[far] if near == k else near] = True
-        steps = []
-        program = self.base
-        for at in sorted(anew):
-            body = written_with(self.rules[k], self.rules[at])
-            program = stepped(program, steps, ("rows", place + (at + 1,), body))
-        program = stepped(program, steps, ("choices", place, found_at(changed_program(program, self.change), place)))
-        for at, origin in enumerate(origins):
-            if origin in anew:
-                program = stepped(program, steps, ("rows", place + (at + 1,), self.others[at][1]))
-        return steps
-
-
-def stepped(program, steps, step):
-    """The program behind a step that puts an expression at a place; the step is added to those told."""
-    result = with_expr_at(program, step[1], step[2])
-    check_size(result)
-    steps.append(step)
-    return result
-
-
-def group_of(way, ways):
-    """The list of the ways that are led to one another with one of them."""
-    group = [way]
-    at = 0
-    while at < len(group):
-        _, k, other = group[at]
-        group.extend([told for told in ways if (told[1] == k or told[2] == other) and told not in group])
-        at += 1
-    return group
 
 
 def went(whole, patterns, others):

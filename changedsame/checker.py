@@ -1,6 +1,5 @@
 """The small checker of papers: one look for each rule."""
 
-from changedsame.alikes import are_alike_parts
 from changedsame.basics import word_of
 from changedsame.cases import like_choices
 from changedsame.errors import BadStep, InvalidConstructor, InvalidPaper, InvalidProgram, NotAccepted
@@ -11,7 +10,7 @@ from changedsame.finding import is_value
 from changedsame.givens import as_seen, function_of, meaning_at, still_given
 from changedsame.infer import is_accepted
 from changedsame.moves import decided_move, is_move
-from changedsame.opensorts import are_straight_with, sorts_at
+from changedsame.opensorts import are_rows_alike
 from changedsame.origins import clash_behind
 from changedsame.papers import PROGRAM_RULES, are_related, rules
 from changedsame.renames import decided_rename, is_rename
@@ -95,10 +94,8 @@ def put_by(program, rule, place, more):
     return result if action(program, place, more) else None
 
 
-def are_rows_alike(program, place, more):
-    part = found_at(program, place)
-    sorts = sorts_at(program, place, [more])
-    return are_straight_with(part, more, sorts) and are_alike_parts(part, more, sorts)
+def are_alike_rows(program, place, more):
+    return are_rows_alike(program, place, more)
 
 
 def are_choices_alike(program, place, more):
@@ -169,6 +166,6 @@ def turned(program, change):
         return None
 
 
-CHECKS = {"rows": are_rows_alike, "choices": are_choices_alike, "given": is_given}
+CHECKS = {"rows": are_alike_rows, "choices": are_choices_alike, "given": is_given}
 
 CHANGES = {"names": named, "moved": moved, "flipped": flipped, "turned": turned}

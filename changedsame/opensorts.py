@@ -1,5 +1,6 @@
 """The sorts that the free names of parts have at a place of a program."""
 
+from changedsame.alikes import are_alike_parts
 from changedsame.binding import free_uses
 from changedsame.bindings import types_found
 from changedsame.infer import found, is_accepted
@@ -50,6 +51,13 @@ def sorts_at(program, place, exprs):
 def can_stand(program, place, expr):
     """Whether a program with this expression at a place is accepted; raises what makes it too large."""
     return is_accepted(put_within(program, place, expr))
+
+
+def are_rows_alike(program, place, more):
+    """Whether the part at a place and an expression that can stand there are straight, and alike in all surroundings."""
+    part = found_at(program, place)
+    sorts = sorts_at(program, place, [more])
+    return are_straight_with(part, more, sorts) and are_alike_parts(part, more, sorts)
 
 
 def are_straight_with(part, other, sorts):

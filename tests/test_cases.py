@@ -10,17 +10,21 @@ from running import parting_run
 from test_papers import Apart
 from typed import Typed
 
+from changedsame.alikes import are_alike_parts
+from changedsame.bindings import binder_of, type_at
 from changedsame.cases import case_result, is_case_change, like_choices, told_case, went
 from changedsame.checker import is_paper
 from changedsame.errors import InvalidChange, InvalidPath, InvalidPatterns, InvalidPlace, InvalidProgram, InvalidRule, InvalidWhole, NotAccepted, TooMany
 from changedsame.infer import is_accepted
 from changedsame.matches import first_rule, is_plain
-from changedsame.names import are_alpha
+from changedsame.names import are_alpha, free_names
 from changedsame.parser import parse, parse_expr
-from changedsame.places import expr_at, places, put_at
+from changedsame.places import expr_at, places
 from changedsame.plainruns import run_outer
 from changedsame.printer import expr_text, program_text
 from changedsame.sights import sights
+from changedsame.spots import below
+from changedsame.straights import sort_of
 from changedsame.surroundings import is_parting
 from changedsame.trees import is_program
 from changedsame.wholes import resolved
@@ -379,6 +383,92 @@ class TestRandom(unittest.TestCase):
                 seen[key] = seen.get(key, 0) + 1
         for key in [("swap rules", "taken", False), ("drop rule", "taken", False), ("merge rules", "taken", False), ("split rule", "taken", False), ("swap rules", "refused", "beyond"), ("drop rule", "refused", "value")]:
             self.assertGreater(seen.get(key, 0), 3, (key, seen))
+
+
+BODIES = ["X", "X + 0", "Y", "X - X", "0", "1", "X + Y", "Y + X", "!r", "!r + 0", "f X", "f (X + 0)", "(tell(X); 0)", "(tell(X + 0); 0)", "let a = X in a", "let c = X in c + 0", "2 * X", "n", "n + 0", "a", "b - b", "raise NoMore"]
+GLOBALS = {"r": "ref", "f": "fun", "n": "int", "a": "int", "b": "int"}
+
+
+class TestStraightOnes(unittest.TestCase):
+    """Random rules of three numbers, with names from outside that patterns hide, looked at by the words of [264]."""
+
+    def rule(self, rand):
+        free = ["a", "b", "c"]
+        parts = [("bind", free.pop(rand.randrange(len(free)))) if rand.random() < 0.45 else rand.choice([("int", 0), ("int", 1), ("any",)]) for _ in range(3)]
+        names = [part[1] for part in parts if part[0] == "bind"] + ["n", "a", "b"]
+        text = rand.choice(BODIES).replace("X", rand.choice(names)).replace("Y", rand.choice(names))
+        return (("tuple", tuple(parts)), parse_expr(text))
+
+    def bound(self, rule):
+        return {part[1]: k for k, part in enumerate(rule[0][1]) if part[0] == "bind"}
+
+    def apart(self, rule):
+        return Apart().expr(rule[1], {name: f"p{k}p" for name, k in self.bound(rule).items()})
+
+    def is_writable(self, rule, other):
+        mine, others = self.bound(rule), self.bound(other)
+        return all(mine[name] in others.values() if name in mine else name not in others for name in free_names(rule[1]))
+
+    def has_numbers(self, program, place, rule):
+        expr = expr_at(program, place)
+        uses = [(at, part) for at, part in below(place, expr) if part[0] == "var" and part[1] in self.bound(rule)]
+        return all(binder_of(program, at)[1] != (0, 5, 0) or type_at(program, at) == ("int",) for at, part in uses)
+
+    def are_alike(self, one, other):
+        parts = [self.apart(one), self.apart(other)]
+        sorts = [(name, GLOBALS.get(name, "int")) for name in sorted(set(free_names(parts[0]) + free_names(parts[1])))]
+        kinds = [sort_of(part, sorts) for part in parts]
+        return kinds[0] is not None and kinds[0] == kinds[1] and are_alike_parts(parts[0], parts[1], sorts)
+
+    def is_taken(self, program, result):
+        rules, others = expr_at(program, (0, 5, 0))[2], expr_at(result, (0, 5, 0))[2]
+        pairs = set()
+        for value in values_for([rule[0] for rule in rules + others]):
+            k, other = first_rule([rule[0] for rule in rules], value), first_rule([rule[0] for rule in others], value)
+            if (k is None) != (other is None):
+                return False
+            if k is not None and not are_alpha(self.apart(rules[k]), self.apart(others[other])):
+                pairs.add((k, other))
+        for k, other in pairs:
+            one, two = rules[k], others[other]
+            if not (self.has_numbers(program, (0, 5, 0, k + 1), one) and self.has_numbers(result, (0, 5, 0, other + 1), two)):
+                return False
+            if not (self.is_writable(one, two) and self.is_writable(two, one) and self.are_alike(one, two)):
+                return False
+        # All pairs have the changed rule, or what it became, on one side, so that they are of one group.
+        group = [rules[k] for k, _ in pairs] + [others[other] for _, other in pairs]
+        return all(self.is_writable(rule, other) for rule in group for other in group)
+
+    def test_random(self):
+        seen = {}
+        for seed in range(320):
+            rand = random.Random(seed)
+            rules = tuple(self.rule(rand) for _ in range(rand.randint(2, 5)))
+            lets = parse("module M = let r = ref(1) let f = fn z -> z + 1 let n = 7 let a = 8 let b = 9 end")[0][3]
+            uses = (("let", "g", ("fn", "x", ("match", ("var", "x"), rules))), ("do", ("call", ("var", "g"), ("tuple", (("prim", "ask", ()),) * 3))))
+            program = (("module", "M", None, lets + uses),)
+            if not is_accepted(program):
+                continue
+            for change in [(word, (0, 5, 0), k) for word in ("swap rules", "drop rule", "merge rules") for k in range(len(rules) - 1)]:
+                told = told_case(program, change)
+                if told[0] == "refused" and told[1][0] == "clash":
+                    continue
+                self.assertIs(told[0] == "taken", self.is_taken(program, case_result(program, change)), (seed, change))
+                if told[0] == "taken":
+                    self.assertTrue(is_paper(program, told[1], told[2]), (seed, change))
+                key = len(told[2]) if told[0] == "taken" else told[1][0]
+                seen[key] = seen.get(key, 0) + 1
+        self.assertGreater(min(seen.get(key, 0) for key in (1, 3, "value", "beyond")), 5, seen)
+
+    def test_types_that_bar_a_body(self):
+        text = "module M = let g = fn x -> match x with (1, _, a) -> a | (_, _, b) -> b + 0 end do g (ask(), ask(), ask()) end"
+        program = parse(text)
+        told = told_case(program, ("swap rules", (0, 0, 0), 0))
+        self.assertEqual(told[0], "taken")
+        self.assertEqual([(step[0], expr_text(step[2])) for step in told[2] if step[0] == "rows"], [("rows", "a + 0"), ("rows", "a")])
+        self.assertTrue(is_paper(program, told[1], told[2]))
+        gone = parse("module M = let g = fn x -> match x with (1, b) -> b + 0 | (c, b) -> let a = b in a end do g (1, 2) end")
+        self.assertEqual(told_case(gone, ("drop rule", (0, 0, 0), 0)), ("refused", ("beyond", (0, 0, 0), 0, 0)))
 
 
 if __name__ == "__main__":
