@@ -64,7 +64,7 @@ class Case:
         return all([can_write(rule, other) for rule in rules for other in rules])
 
     def paper(self):
-        """The list of the steps of a change without a reason, None if types bar all; raises what is too large in all."""
+        """The list of the steps of a change without a reason, None if types bar all; raises what is too large."""
         large = []
         for chosen in self.chosen():
             try:

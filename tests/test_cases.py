@@ -441,7 +441,7 @@ class TestStraightOnes(unittest.TestCase):
 
     def test_random(self):
         seen = {}
-        for seed in range(320):
+        for seed in range(150):
             rand = random.Random(seed)
             rules = tuple(self.rule(rand) for _ in range(rand.randint(2, 5)))
             lets = parse("module M = let r = ref(1) let f = fn z -> z + 1 let n = 7 let a = 8 let b = 9 end")[0][3]
@@ -458,7 +458,7 @@ class TestStraightOnes(unittest.TestCase):
                     self.assertTrue(is_paper(program, told[1], told[2]), (seed, change))
                 key = len(told[2]) if told[0] == "taken" else told[1][0]
                 seen[key] = seen.get(key, 0) + 1
-        self.assertGreater(min(seen.get(key, 0) for key in (1, 3, "value", "beyond")), 5, seen)
+        self.assertGreater(min(seen.get(key, 0) for key in (1, 3, "value", "beyond")), 2, seen)
 
     def test_types_that_bar_a_body(self):
         text = "module M = let g = fn x -> match x with (1, _, a) -> a | (_, _, b) -> b + 0 end do g (ask(), ask(), ask()) end"
