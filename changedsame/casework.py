@@ -133,7 +133,7 @@ def rewritten(program, place, rows, steps):
 
 
 def is_right_row(program, place, body):
-    """Whether the part at a place is straight and alike to a body that can stand there, by no more cases than may be."""
+    """Whether a part is straight and alike to a body that can stand there, by no more cases than may be."""
     try:
         return are_rows_alike(program, place, body)
     except TooMany:

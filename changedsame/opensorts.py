@@ -54,7 +54,7 @@ def can_stand(program, place, expr):
 
 
 def are_rows_alike(program, place, more):
-    """Whether the part at a place and an expression that can stand there are straight, and alike in all surroundings."""
+    """Whether the part at a place, and an expression that can stand there, are straight and alike everywhere."""
     part = found_at(program, place)
     sorts = sorts_at(program, place, [more])
     return are_straight_with(part, more, sorts) and are_alike_parts(part, more, sorts)
