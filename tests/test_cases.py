@@ -151,6 +151,9 @@ class TestTold(unittest.TestCase):
             return reason
         self.assertEqual((reason[0], reason[2:4], len(reason)), ("value", told[2:], 5))
         self.assertTrue(is_plain(reason[1]))
+        result = case_result(program, change)
+        wholes = [[rule[0] for rule in [expr for at, expr, _ in sights(text) if at == change[1]][0][2]] for text in (program, result)]
+        self.assertEqual(tuple(first_rule(patterns, reason[1]) for patterns in wholes), told[2:])
         if told[1] is not None:
             self.assertEqual(reason[1], told[1])
         self.assertTrue(is_accepted(reason[4][0]) and is_accepted(reason[4][1]))
@@ -458,6 +461,9 @@ class TestStraightOnes(unittest.TestCase):
                     self.assertTrue(is_paper(program, told[1], told[2]), (seed, change))
                 key = len(told[2]) if told[0] == "taken" else told[1][0]
                 seen[key] = seen.get(key, 0) + 1
+                if key == "value":
+                    others = expr_at(case_result(program, change), (0, 5, 0))[2]
+                    self.assertEqual(tuple(first_rule([rule[0] for rule in row], told[1][1]) for row in (rules, others)), told[1][2:4])
         self.assertGreater(min(seen.get(key, 0) for key in (1, 3, "value", "beyond")), 2, seen)
 
     def test_types_that_bar_a_body(self):
