@@ -7,7 +7,7 @@ from changedsame.errors import TooMany
 from changedsame.infer import is_accepted
 from changedsame.opensorts import are_rows_alike
 from changedsame.places import check_size
-from changedsame.plaintrees import shape_of
+from changedsame.plaintrees import full_shape
 from changedsame.sights import sights
 from changedsame.spots import found_at, with_expr_at
 from changedsame.wholes import whole_of
@@ -49,7 +49,7 @@ class Case:
         together = [way for way, is_alike in zip(self.unlike, told) if is_alike]
         for at, way in enumerate(self.unlike):
             if told[at] is False:
-                return ("value", shape_of(self.board, way[0]), way[1], way[2], self.pairs[at].surroundings())
+                return ("value", full_shape(self.board, way[0]), way[1], way[2], self.pairs[at].surroundings())
             if told[at] is None or not self.can_all_be_written(group_of(way, together)):
                 return self.beyond(way)
         return None

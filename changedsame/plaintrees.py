@@ -100,6 +100,30 @@ def shape_at(board, table, place):
     return ("con", con, shape_at(board, table, place + (con,)))
 
 
+def full_shape(board, known):
+    """A shape of which this is known, with all tuples and constructors that are sure to be there."""
+    table = {}
+    for place in known:
+        table[place] = free_key(board, known, place)
+    return full_at(board, table, ())
+
+
+def full_at(board, table, place):
+    """The part of the full shape at a place; the table tells keys at places."""
+    sort = board.sorts.get(place, ("cell",))
+    if sort[0] == "tuple":
+        return ("tuple", tuple([full_at(board, table, place + (k,)) for k in range(sort[1])]))
+    if sort[0] == "unit":
+        return ("unit",)
+    keys = [table[place]] if place in table else board.keys_at(place) if sort[0] == "con" else None
+    if keys is None or len(keys) > 1:
+        return ("cell", 0)
+    if sort[0] != "con":
+        return (sort[0], keys[0])
+    con = keys[0]
+    return ("con", con, full_at(board, table, place + (con,)) if board.has_argument(con) else None)
+
+
 def open_shape(builder):
     """A shape that leads to a "fail" of the tree that was made, None if it has none."""
     shapes = []

@@ -180,6 +180,13 @@ class TestTold(unittest.TestCase):
                 self.look(rules, change, told)
         self.look("B 1 -> 1 | B 2 -> 2 | _ -> 3", ("merge rules", 0), ("value", ("con", "M.B", ("int", 2)), 1, 0))
 
+    def test_told_values_hold_what_is_sure(self):
+        more = "type only = Only of int * (bool * unit)"
+        for rules, value in [
+                ("y -> 1 | z -> 2", ("cell", 0)), ("(a, b) -> 1 | (c, 1) -> 2", ("tuple", (("cell", 0), ("int", 1)))), ("(a, (b, c)) -> 1 | (d, e) -> 2", ("tuple", (("cell", 0), ("tuple", (("cell", 0), ("cell", 0)))))),
+                ("Only (_, (_, ())) -> 1 | _ -> 2", ("con", "M.Only", ("tuple", (("cell", 0), ("tuple", (("cell", 0), ("unit",))))))), ("() -> 1 | _ -> 2", ("unit",)), ("(A, _) -> 1 | (_, Only _) -> 2", ("tuple", (("con", "M.A", None), ("con", "M.Only", ("cell", 0)))))]:
+            self.look(rules, ("swap rules", 0), ("value", value, 0, 0), more=more)
+
     def test_clashes(self):
         for rules, change in [
                 ("B n -> n | _ -> 2", ("merge rules", 0)), ("C (n, true) -> n | C (1, false) -> 2 | _ -> 3", ("merge rules", 0)), ("_ -> 1", ("split rule", 0, (), "Q")), ("_ -> 1", ("split rule", 0, (), "M.A")),
