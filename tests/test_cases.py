@@ -480,6 +480,13 @@ class TestStraightOnes(unittest.TestCase):
         self.assertEqual(told[0], "taken")
         self.assertEqual([(step[0], expr_text(step[2])) for step in told[2] if step[0] == "rows"], [("rows", "a + 0"), ("rows", "a")])
         self.assertTrue(is_paper(program, told[1], told[2]))
+        text = "module M = let g = fn x -> match x with (1, _, a) -> a | (_, 2, b) -> b | (_, _, c) -> c + 0 end do g (1, 2, 3) end"
+        program = parse(text)
+        told = told_case(program, ("drop rule", (0, 0, 0), 0))
+        self.assertEqual([(step[0], step[1][-1], expr_text(step[2])) for step in told[2] if step[0] == "rows"], [("rows", 1, "a + 0"), ("rows", 2, "b + 0"), ("rows", 1, "b")])
+        self.assertTrue(is_paper(program, told[1], told[2]))
+        program = parse(text.replace("(_, 2, b) -> b", "(_, 2, _) -> 7"))
+        self.assertEqual(told_case(program, ("drop rule", (0, 0, 0), 0))[1][0], "beyond")
         gone = parse("module M = let g = fn x -> match x with (1, b) -> b + 0 | (c, b) -> let a = b in a end do g (1, 2) end")
         self.assertEqual(told_case(gone, ("drop rule", (0, 0, 0), 0)), ("refused", ("beyond", (0, 0, 0), 0, 0)))
 
